@@ -1,0 +1,1 @@
+"""Mergerates: partings of names that merge by rates, told exactly in integers and fractions."""

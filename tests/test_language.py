@@ -1,0 +1,94 @@
+"""[0.1] and the rules of the language that can be seen without running the program."""
+
+import ast
+import re
+from pathlib import Path
+
+from tests.case import Case
+
+FOLDER = Path(__file__).resolve().parent.parent / "mergerates"
+LIBRARY = {"math": {"gcd", "lcm", "isqrt", "comb", "perm", "factorial"},
+           "itertools": {"product", "combinations", "permutations"},
+           "heapq": {"heappush", "heappop", "heapify", "heapreplace", "heappushpop"},
+           "collections": {"defaultdict"}}
+BUILTINS = set("""len range enumerate zip min max sum abs sorted reversed int str bool bytes list tuple dict set
+    frozenset isinstance ord repr any all divmod pow getattr hasattr setattr iter next map super property
+    staticmethod classmethod ValueError KeyError NotImplemented""".split())
+BARRED = re.compile(r"\b(type|typing|enum|Enum|namedtuple|dataclass|abstractmethod|register|mro|law|eval|exec)\b")
+WRONG_NODES = (ast.Div, ast.Global, ast.AsyncFunctionDef, ast.Await, ast.Import)
+
+
+def sources():
+    return [(path.name, path.read_bytes()) for path in sorted(FOLDER.rglob("*")) if path.suffix == ".py"]
+
+
+def trees():
+    return [(name, ast.parse(text)) for name, text in sources()]
+
+
+class Language(Case):
+    def test_l1_only_files_of_python(self):
+        for path in FOLDER.rglob("*"):
+            if "__pycache__" not in path.parts:
+                self.assertTrue(re.fullmatch(r"[a-z_]+\.py", path.name), path)
+
+    def test_l10_l14_sizes_and_signs(self):
+        for name, text in sources():
+            lines = text.decode("ascii").split("\n")
+            self.assertLessEqual(len(lines), 400, name)
+            for line in lines:
+                self.assertTrue(len(line) <= 120 and all(" " <= sign <= "~" for sign in line), (name, line))
+
+    def test_l10_functions_are_short(self):
+        for name, tree in trees():
+            for node in ast.walk(tree):
+                if isinstance(node, ast.FunctionDef):
+                    self.assertLessEqual(node.end_lineno - node.lineno + 1, 40, (name, node.name))
+
+    def test_l2_l16_imports(self):
+        for name, tree in trees():
+            for node in ast.walk(tree):
+                if isinstance(node, ast.ImportFrom):
+                    self.assertEqual(node.level, 0)
+                    words = {alias.name for alias in node.names}
+                    known = LIBRARY.get(node.module, set())
+                    self.assertTrue(node.module.startswith("mergerates.") or words <= known, (name, node.module))
+
+    def test_l3_module_level(self):
+        plain = (ast.ImportFrom, ast.FunctionDef, ast.ClassDef, ast.Assign)
+        for name, tree in trees():
+            for place, node in enumerate(tree.body):
+                docstring = place == 0 and isinstance(node, ast.Expr) and isinstance(node.value, ast.Constant)
+                self.assertTrue(docstring or isinstance(node, plain), (name, node.lineno))
+
+    def test_0_1_no_floats_and_nothing_barred(self):
+        for name, tree in trees():
+            for node in ast.walk(tree):
+                self.assertNotIsInstance(node, WRONG_NODES, (name, getattr(node, "lineno", 0)))
+                if isinstance(node, ast.Constant):
+                    self.assertNotIsInstance(node.value, (float, complex), name)
+                    if isinstance(node.value, str):
+                        self.assertNotIn("\x25", node.value, name)
+
+    def test_l8_builtins(self):
+        every = set(dir(__builtins__)) if not isinstance(__builtins__, dict) else set(__builtins__)
+        for name, tree in trees():
+            for node in ast.walk(tree):
+                if isinstance(node, ast.Name) and node.id in every:
+                    self.assertIn(node.id, BUILTINS, (name, node.lineno))
+
+    def test_l17_words(self):
+        for name, tree in trees():
+            for node in ast.walk(tree):
+                words = [getattr(node, "id", ""), getattr(node, "attr", ""), getattr(node, "arg", "") or ""]
+                if isinstance(node, (ast.FunctionDef, ast.ClassDef)):
+                    words.append(node.name)
+                for word in words:
+                    self.assertIsNone(BARRED.search(word), (name, word))
+
+    def test_l7_all_and_any_take_lists(self):
+        for name, tree in trees():
+            for node in ast.walk(tree):
+                if isinstance(node, ast.Call):
+                    for argument in node.args:
+                        self.assertNotIsInstance(argument, ast.GeneratorExp, (name, node.lineno))
