@@ -14,12 +14,18 @@ def reduced(top, bottom):
     return (top // common, bottom // common)
 
 
-def summed(pairs):
-    """The sum of pairs (top, bottom) with bottoms above 0; they need not be in lowest terms."""
+def on_one_bottom(pairs):
+    """New tops and one bottom for all of the pairs (top, bottom), their bottoms being above 0."""
     bottom = 1
     for _, part in pairs:
         bottom = lcm(bottom, part)
-    return reduced(sum([top * (bottom // part) for top, part in pairs]), bottom)
+    return [top * (bottom // part) for top, part in pairs], bottom
+
+
+def summed(pairs):
+    """The sum of pairs (top, bottom) with bottoms above 0; they need not be in lowest terms."""
+    tops, bottom = on_one_bottom(pairs)
+    return reduced(sum(tops), bottom)
 
 
 def fraction(top, bottom=1):

@@ -153,6 +153,14 @@ def names_taken(names, n):
     return tuple(names)
 
 
+def all_names_taken(names, n):
+    """A list of all names below n, in its own order."""
+    taken = names_taken(names, n)
+    if len(taken) < n:
+        raise BadLot(-1)
+    return taken
+
+
 def lot_taken(lot, n):
     """The ascending tuple of the names of a lot."""
     return tuple(sorted(names_taken(lot, n)))

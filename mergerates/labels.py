@@ -72,6 +72,11 @@ def traced(p, lot):
     return relabelled([p[name] for name in lot])
 
 
+def rearranged(p, names):
+    """The parting in which names[i] and names[j] are together if i and j are in p."""
+    return relabelled([p[names.index(name)] for name in range(len(p))])
+
+
 def viewed(p, r):
     """r seen from p."""
     # The labels of r are first met at first names of blocks of p, so they need no new order.

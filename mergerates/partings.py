@@ -1,13 +1,13 @@
 """Partings: tuples of labels that tell which names stand in one block."""
 
 from mergerates.checks import (
-    MOST_NAMES, alike_partings, check_names, check_size, check_within, is_integer, is_list, is_name,
-    lot_taken, names_taken, parting_taken, some_lot_taken,
+    MOST_NAMES, alike_partings, all_names_taken, check_names, check_size, check_within, is_integer, is_list,
+    is_name, lot_taken, parting_taken, some_lot_taken,
 )
 from mergerates.errors import BadLot, BadParting, NotFiner
 from mergerates.labels import (
     all_partings, all_singles, block_count, block_names, coarser, is_finer, joined, joined_all, raised,
-    relabelled, subsets, traced, viewed,
+    rearranged, relabelled, subsets, traced, viewed,
 )
 
 
@@ -126,10 +126,7 @@ def lifted(p, x):
 def renamed(p, names):
     """The parting in which names[i] and names[j] are together if i and j are in p."""
     taken = parting_taken(p)
-    new_names = names_taken(names, len(taken))
-    if len(new_names) < len(taken):
-        raise BadLot(-1)
-    return relabelled([taken[new_names.index(name)] for name in range(len(taken))])
+    return rearranged(taken, all_names_taken(names, len(taken)))
 
 
 def coarser_than(p):

@@ -5,13 +5,16 @@ import importlib
 import inspect
 from pathlib import Path
 
+from mergerates.leaving import Clock
 from mergerates.worlds import World
 from tests.case import Case
 
+MOVES = [((0, 1, 2), (0, 0, 1), 2), ((0, 1, 2), (0, 0, 0), 1), ((0, 0, 1), (0, 0, 0), 4)]
 FOLDER = Path(__file__).resolve().parent.parent / "mergerates"
 
 # The modules in the order of the document; the two helpers are used by all but errors.
-ORDER = ("errors", "checks", "labels", "amounts", "partings", "tables", "tracing", "worlds")
+ORDER = ("errors", "checks", "labels", "amounts", "partings", "tables", "tracing",
+         "worlds", "runs", "leaving", "likeness", "seen", "steady", "colours", "likejoins")
 
 FUNCTIONS = {
     "amounts": {
@@ -32,6 +35,30 @@ FUNCTIONS = {
     },
     "tracing": {"goes_through": "(rest, lot)", "broken_link": "(rest, lot)"},
     "worlds": {"reached": "(world, start=None)"},
+    "runs": {
+        "stays": "(world, start=None, *, inside=None)", "meets": "(world, start=None)",
+        "chains": "(world, start=None)", "chain_chance": "(world, chain)",
+    },
+    "leaving": {
+        "exits": "(world, family)", "memoryless": "(world, family)", "leaving_time": "(world, family, start)",
+    },
+    "likeness": {
+        "factor_at": "(world, other, p)", "unlike_chain": "(world, other)", "same_chains": "(world, other)",
+    },
+    "seen": {"seen_world": "(world, p)", "below_world": "(world, t)", "renamed_world": "(world, names)"},
+    "steady": {
+        "finer_than": "(t)", "is_steady": "(world, t)", "unsteady_pair": "(world, t)",
+        "steady_partings": "(world)", "steady_to": "(world)", "held_time": "(world, t, start)",
+        "breaking_table": "(world)",
+    },
+    "colours": {
+        "row_exit": "(b, row, t)", "alike_to_colours": "(b, row, other, q)",
+        "unlike_colouring": "(b, row, other, q)", "seen_to": "(b, row, q)", "unseen_rows": "(b, q)",
+    },
+    "likejoins": {
+        "joined_row": "(world, p)", "like_joins_at": "(world, p)", "joins_here": "(world, p, q)",
+        "first_joins": "(world)", "least_colours": "(world)", "is_one_lot": "(world)", "not_one_lot": "(world)",
+    },
 }
 
 WORLD = {
@@ -40,6 +67,9 @@ WORLD = {
     "total_from": "(self, p)", "from_here": "(self, p)", "is_end": "(self, p)",
     "first_rates": "(self)", "row_at": "(self, p)", "exit_from": "(self, p, t)", "lines": "(self)",
 }
+
+CLOCK = {"__init__": "(self, world, family)", "__call__": "(self, p)", "level": "(self)", "bounds": "(self, p)"}
+GENERATORS = {"lots_of": "partings", "chains": "runs"}
 
 
 def module_named(name):
@@ -62,8 +92,18 @@ class Interface(Case):
                     self.assertEqual(str(inspect.signature(function)), arguments)
                     self.assertEqual(function.__module__, f"mergerates.{name}")
 
-    def test_lots_of_is_a_generator(self):
-        self.assertTrue(inspect.isgeneratorfunction(module_named("partings").lots_of))
+    def test_generators(self):
+        for name, functions in FUNCTIONS.items():
+            for word in functions:
+                found = inspect.isgeneratorfunction(getattr(module_named(name), word))
+                self.assertEqual(found, GENERATORS.get(word) == name, word)
+
+    def test_clock_defines_its_methods_itself(self):
+        for word, arguments in CLOCK.items():
+            with self.subTest(word):
+                self.assertEqual(str(inspect.signature(vars(Clock)[word])), arguments)
+        self.assertEqual(Clock.__module__, "mergerates.leaving")
+        self.assertEqual(Clock.__bases__, (object,))
 
     def test_world_defines_its_methods_itself(self):
         for word, arguments in WORLD.items():
@@ -97,5 +137,37 @@ class Examples(Case):
         self.same(broken_link([(0, 1, 1), (0, 1, 0)], (0, 1)), (0, 1, (1, 0)))
 
     def test_lines(self):
-        moves = [((0, 1, 2), (0, 0, 1), 2), ((0, 1, 2), (0, 0, 0), 1), ((0, 0, 1), (0, 0, 0), 4)]
-        self.same(World(3, moves).lines(), "names 3\n001 > 000 : 4\n012 > 000 : 1\n012 > 001 : 2")
+        self.same(World(3, MOVES).lines(), "names 3\n001 > 000 : 4\n012 > 000 : 1\n012 > 001 : 2")
+
+    def test_stays(self):
+        from mergerates.runs import stays
+        self.same(stays(World(3, MOVES)), (None, (1, 6), (0, 1), (0, 1), (1, 3)))
+
+    def test_clock(self):
+        k = Clock(World(3, MOVES), [(0, 0, 1), (0, 1, 2)])
+        self.same([k((0, 1, 2)), k((0, 0, 1)), k.bounds((0, 1, 2)), k.level()], [(1, 2), (1, 4), (1, 4), None])
+
+    def test_held_time(self):
+        from mergerates.steady import held_time, unsteady_pair
+        first = [((0, 1, 2, 3), (0, 0, 1, 2), 2), ((0, 1, 2, 3), (0, 1, 2, 2), 2), ((0, 1, 2, 3), (0, 0, 0, 0), 2)]
+        second = [((0, 0, 1, 2), (0, 0, 1, 1), 1), ((0, 0, 1, 2), (0, 0, 0, 0), 3), ((0, 1, 2, 2), (0, 0, 1, 1), 3)]
+        third = [((0, 1, 2, 2), (0, 0, 0, 0), 1), ((0, 0, 1, 1), (0, 0, 0, 0), 2)]
+        w = World(4, first + second + third)
+        t = (0, 0, 1, 1)
+        self.same([unsteady_pair(w, t), held_time(w, t, (0, 1, 2, 3)), held_time(w, t, (0, 0, 1, 2)),
+                   held_time(w, t, t)], [((0, 0, 1, 1), (0, 0, 1, 2)), (1, 2), (3, 8), (1, 2)])
+
+    def test_unseen_rows(self):
+        from mergerates.colours import alike_to_colours, unlike_colouring, unseen_rows
+        row = (2, 0, 0, 0, 0)
+        other = (0, 1, 1, 1, 0)
+        self.same([alike_to_colours(3, row, other, 2), unlike_colouring(3, row, other, 3), unseen_rows(3, 2)],
+                  [True, (0, 1, 2), [(-2, 1, 1, 1, 0)]])
+
+    def test_first_joins(self):
+        from mergerates.likejoins import first_joins, least_colours
+        from mergerates.steady import breaking_table, steady_to
+        w = World(3, [((0, 1, 2), (0, 0, 1), 1), ((0, 0, 1), (0, 0, 0), 3)])
+        self.same([breaking_table(w), least_colours(w), steady_to(w)], [(0, 0, 1, 1, 1), (1, 1, 1, 1, 3), 1])
+        self.same(first_joins(w).moves,
+                  (((0, 1, 0), (0, 0, 0), 1), ((0, 1, 1), (0, 0, 0), 1), ((0, 1, 2), (0, 0, 1), 1)))

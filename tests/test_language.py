@@ -15,11 +15,33 @@ BUILTINS = set("""len range enumerate zip min max sum abs sorted reversed int st
     frozenset isinstance ord repr any all divmod pow getattr hasattr setattr iter next map super property
     staticmethod classmethod ValueError KeyError NotImplemented""".split())
 BARRED = re.compile(r"\b(type|typing|enum|Enum|namedtuple|dataclass|abstractmethod|register|mro|law|eval|exec)\b")
+METHODS = set("""append clear copy count endswith extend find get index insert isalnum isalpha isdigit islower isspace
+    isupper items join keys ljust lower lstrip partition pop remove replace reverse rfind rjust rpartition rsplit
+    rstrip setdefault split splitlines startswith strip update upper values zfill bit_length""".split())
 WRONG_NODES = (ast.Div, ast.Global, ast.AsyncFunctionDef, ast.Await, ast.Import)
 
 
 def sources():
     return [(path.name, path.read_bytes()) for path in sorted(FOLDER.rglob("*")) if path.suffix == ".py"]
+
+
+def bound_at_the_top(tree):
+    """The names of the imports, and those of the functions, classes and values that a file defines."""
+    imports = [alias.name for node in tree.body if isinstance(node, ast.ImportFrom) for alias in node.names]
+    own = [node.name for node in tree.body if isinstance(node, (ast.FunctionDef, ast.ClassDef))]
+    own += [node.targets[0].id for node in tree.body if isinstance(node, ast.Assign)]
+    return imports, own
+
+
+def bound_inside(tree):
+    """The names of all parameters, local variables and loops."""
+    for node in ast.walk(tree):
+        if isinstance(node, ast.FunctionDef):
+            for inner in ast.walk(node):
+                if isinstance(inner, ast.arg):
+                    yield inner.arg
+                elif isinstance(inner, ast.Name) and isinstance(inner.ctx, ast.Store):
+                    yield inner.id
 
 
 def trees():
@@ -53,6 +75,48 @@ class Language(Case):
                     words = {alias.name for alias in node.names}
                     known = LIBRARY.get(node.module, set())
                     self.assertTrue(node.module.startswith("mergerates.") or words <= known, (name, node.module))
+
+    def test_l15_one_binding_for_each_name(self):
+        for name, tree in trees():
+            imports, own = bound_at_the_top(tree)
+            self.assertEqual(sorted([*imports, *own]), sorted({*imports, *own}), name)
+            classes = [node.name for node in tree.body if isinstance(node, ast.ClassDef)]
+            self.assertEqual({*imports, *classes} & set(bound_inside(tree)), set(), name)
+
+    def test_l16_names_come_from_the_file_that_defines_them(self):
+        own = {name.removesuffix(".py"): bound_at_the_top(tree)[1] for name, tree in trees()}
+        for name, tree in trees():
+            used = {node.id for node in ast.walk(tree) if isinstance(node, ast.Name)}
+            for node in tree.body:
+                if isinstance(node, ast.ImportFrom):
+                    words = {alias.name for alias in node.names}
+                    self.assertLessEqual(words, used, name)
+                    if node.module not in LIBRARY:
+                        self.assertLessEqual(words, set(own[node.module.removeprefix("mergerates.")]), name)
+
+    def test_l25_methods(self):
+        attributes = set()
+        for name, tree in trees():
+            for node in ast.walk(tree):
+                if isinstance(node, ast.ClassDef):
+                    attributes |= {inner.name for inner in node.body if isinstance(inner, ast.FunctionDef)}
+        for name, tree in trees():
+            for node in ast.walk(tree):
+                if isinstance(node, ast.Call) and isinstance(node.func, ast.Attribute):
+                    self.assertIn(node.func.attr, METHODS | attributes, (name, node.lineno))
+
+    def test_l24_no_sets(self):
+        for name, tree in trees():
+            for node in ast.walk(tree):
+                self.assertNotIsInstance(node, (ast.Set, ast.SetComp), name)
+
+    def test_l23_generators_are_iterated_at_once(self):
+        found = {node.name for name, tree in trees() for node in ast.walk(tree)
+                 if isinstance(node, ast.FunctionDef) and any(isinstance(x, ast.Yield) for x in ast.walk(node))}
+        self.assertEqual(found, {"lots_of", "chains"})
+        for name, tree in trees():
+            used = [node.id for node in ast.walk(tree) if isinstance(node, ast.Name)]
+            self.assertEqual(found & {*used, *bound_inside(tree)}, set(), name)
 
     def test_l3_module_level(self):
         plain = (ast.ImportFrom, ast.FunctionDef, ast.ClassDef, ast.Assign)
