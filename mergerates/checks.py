@@ -53,26 +53,67 @@ def amount_taken(value, word):
     return value
 
 
+def is_amount(value):
+    return is_integer(value) or is_fraction(value)
+
+
+def as_fraction(amount):
+    """The fraction that an integer or a fraction is, which has been looked at before."""
+    return (amount, 1) if is_integer(amount) else amount
+
+
+def is_share(value):
+    """An integer or a fraction that is not below 0."""
+    return is_amount(value) and as_fraction(value)[0] >= 0
+
+
+def is_chance(value):
+    """An integer or a fraction from 0 to 1."""
+    return is_share(value) and as_fraction(value)[0] <= as_fraction(value)[1]
+
+
+def is_miss(value):
+    """An integer or a fraction above 0 and at most 1."""
+    return is_chance(value) and as_fraction(value)[0] > 0
+
+
+def moment_taken(u):
+    """The fraction that tells a time by the chance u that a stroke of weight 1 has not come yet."""
+    if not is_miss(u):
+        raise BadNumber("u")
+    return as_fraction(u)
+
+
 def amounts_taken(rest):
     """The list of the fractions that the items of a list are."""
     if not is_list(rest):
         raise BadTable(-1)
-    taken = []
     for place, item in enumerate(rest):
-        if is_integer(item):
-            taken.append((item, 1))
-        elif is_fraction(item):
-            taken.append(item)
-        else:
+        if not is_amount(item):
             raise BadTable(place)
-    return taken
+    return [as_fraction(item) for item in rest]
+
+
+def check_table(n, table):
+    """Refuses what has not one item for each parting of n names."""
+    if not is_list(table) or len(table) != PARTING_COUNTS[n]:
+        raise BadTable(-1)
 
 
 def table_taken(n, table):
     """The list of the fractions of a table on n names."""
-    if not is_list(table) or len(table) != PARTING_COUNTS[n]:
-        raise BadTable(-1)
+    check_table(n, table)
     return amounts_taken(table)
+
+
+def weights_taken(n, weights):
+    """The tuple of the weights on n names."""
+    check_table(n, weights)
+    last = len(weights) - 1
+    for place, weight in enumerate(weights):
+        if not is_count(weight) or (place == last and weight != 0):
+            raise BadTable(place)
+    return tuple(weights)
 
 
 def wrong_label(p):
@@ -115,6 +156,12 @@ def check_names(p, size):
         raise OtherSize(len(p))
 
 
+def check_sizes(first, second):
+    """Refuses a second world, or second chances, of another number of names."""
+    if second.size != first.size:
+        raise OtherSize(second.size)
+
+
 def parting_on(size, p):
     """The parting, an argument by itself, as a tuple, of size names."""
     taken = parting_taken(p)
@@ -143,13 +190,21 @@ def is_name(value, n):
     return is_integer(value) and 0 <= value < n
 
 
-def names_taken(names, n):
-    """A list of different names below n, in its own order."""
+def wrong_name(names, n):
+    """The first place of a list with no name below n or one met before, -1 for no list, None if all are right."""
     if not is_list(names):
-        raise BadLot(-1)
+        return -1
     for place, name in enumerate(names):
         if not is_name(name, n) or name in names[:place]:
-            raise BadLot(place)
+            return place
+    return None
+
+
+def names_taken(names, n):
+    """A list of different names below n, in its own order."""
+    place = wrong_name(names, n)
+    if place is not None:
+        raise BadLot(place)
     return tuple(names)
 
 

@@ -51,6 +51,11 @@ def is_finer(p, r):
     return all([r[name] == r[p.index(label)] for name, label in enumerate(p)])
 
 
+def all_open(r, s):
+    """The partings at which no one of the two questions is closed, ascending."""
+    return [t for t in all_partings(len(r)) if not is_finer(r, t) and not is_finer(s, t)]
+
+
 def joined(p, r):
     marks = list(p)
     for name, label in enumerate(r):

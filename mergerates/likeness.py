@@ -1,14 +1,8 @@
 """Likeness of two worlds: whether all chains from singles have the same chances in both."""
 
 from mergerates.amounts import reduced
-from mergerates.checks import check_names, parting_taken
-from mergerates.errors import OtherSize
+from mergerates.checks import check_names, check_sizes, parting_taken
 from mergerates.worlds import reached
-
-
-def check_sizes(world, other):
-    if other.size != world.size:
-        raise OtherSize(other.size)
 
 
 def factor_here(world, other, p):

@@ -1,9 +1,9 @@
 """Worlds: rates at which partings go over to coarser ones."""
 
 from mergerates.checks import (
-    check_count, check_names, check_size, is_count, is_list, listed_parting, parting_on, partings_on,
+    check_count, check_names, check_size, check_sizes, is_count, is_list, listed_parting, parting_on, partings_on,
 )
-from mergerates.errors import BadNumber, BadTable, BadText, MergeError, NotFiner, OtherSize
+from mergerates.errors import BadNumber, BadTable, BadText, MergeError, NotFiner
 from mergerates.labels import all_partings, all_singles, block_count, is_finer, raised
 
 DIGITS = "0123456789"
@@ -107,8 +107,7 @@ class World:
     def __add__(self, other):
         if not isinstance(other, World):
             return NotImplemented
-        if other.size != self.size:
-            raise OtherSize(other.size)
+        check_sizes(self, other)
         return World(self.size, self.moves + other.moves)
 
     def __mul__(self, other):

@@ -3,72 +3,18 @@
 import copy
 
 from mergerates import (
-    amounts, colours, leaving, likejoins, likeness, partings, runs, seen, steady, tables, tracing,
+    amounts, breaking, chances, colours, joins, leaving, likejoins, likeness, means, missing, partings, polynomials,
+    runs, seen, steady, tables, telling, tracing,
 )
+from mergerates.chances import Chances
 from mergerates.errors import (
-    BadLot, BadNumber, BadParting, BadTable, NotFiner, NotInside, OtherSize, TooMany,
+    BadLot, BadNumber, BadParting, BadTable, NotFiner, NotInside, NotJoins, OtherSize, TooMany,
 )
+from mergerates.joins import Joins
+from mergerates.polynomials import Poly
 from mergerates.worlds import World, reached
+from tests.calls import CALLS, CHANCES, CLOCK, JOINS, LISTS, POLY, WORLD
 from tests.case import NO_AMOUNTS, Case
-
-WORLD = World(3, [((0, 1, 2), (0, 0, 1), 2), ((0, 1, 2), (0, 0, 0), 1), ((0, 0, 1), (0, 0, 0), 4)])
-FAMILY = [[0, 1, 2], [0, 0, 1]]
-CLOCK = leaving.Clock(WORLD, FAMILY)
-
-# Each function with arguments by name, everything that may be a list being a list.
-CALLS = (
-    (amounts.fraction, {"top": 6, "bottom": 4}), (amounts.plus, {"f": (1, 2), "g": 1}),
-    (amounts.minus, {"f": (1, 2), "g": 1}), (amounts.multiply, {"f": (1, 2), "g": 3}),
-    (amounts.over, {"f": (1, 2), "g": 3}), (amounts.compare, {"f": (1, 2), "g": 3}),
-    (amounts.power, {"f": (1, 2), "k": 3}), (amounts.total, {"rest": [1, (1, 2), -4]}),
-    (amounts.shown, {"f": (1, 2)}),
-    (partings.singles, {"n": 3}), (partings.whole, {"n": 3}), (partings.lot_parting, {"lot": [2, 0], "n": 4}),
-    (partings.parting_of, {"marks": [4, 2, 4]}), (partings.partings, {"n": 4}),
-    (partings.count_of, {"p": [0, 1, 0]}), (partings.blocks_of, {"p": [0, 1, 0]}),
-    (partings.shape_of, {"p": [0, 1, 0]}), (partings.touched, {"p": [0, 1, 0]}),
-    (partings.together, {"p": [0, 1, 0], "a": 2, "b": 0}), (partings.finer, {"p": [0, 1, 2], "r": [0, 1, 0]}),
-    (partings.join, {"p": [0, 1, 1], "r": [0, 1, 0]}), (partings.meet, {"p": [0, 0, 0], "r": [0, 1, 0]}),
-    (partings.join_all, {"p": [0, 1, 1]}), (partings.trace, {"p": [0, 1, 1], "lot": [2, 0]}),
-    (partings.seen_from, {"p": [0, 1, 1], "r": [0, 0, 0]}), (partings.lifted, {"p": [0, 1, 1], "x": [0, 0]}),
-    (partings.renamed, {"p": [0, 1, 1], "names": [2, 0, 1]}), (partings.coarser_than, {"p": [0, 1, 1]}),
-    (tables.mu, {"p": [0, 1, 2], "r": [0, 1, 1]}), (tables.sums_below, {"n": 2, "table": [(1, 2), 3]}),
-    (tables.sums_above, {"n": 2, "table": [(1, 2), 3]}), (tables.told_below, {"n": 2, "table": [(1, 2), 3]}),
-    (tables.told_above, {"n": 2, "table": [(1, 2), 3]}), (tables.counts_by_touch, {"n": 4}),
-    (tables.without_alone, {"k": 4}), (tables.colour_count, {"p": [0, 1, 0], "k": 3}),
-    (tracing.goes_through, {"rest": [[0, 1, 1], [0, 1, 0]], "lot": [1, 0]}),
-    (tracing.broken_link, {"rest": [[0, 1, 1], [0, 1, 0]], "lot": [1, 0]}),
-    (WORLD, {"p": [0, 1, 2], "r": [0, 0, 1]}), (WORLD.total_from, {"p": [0, 1, 2]}),
-    (WORLD.from_here, {"p": [0, 1, 2]}), (WORLD.is_end, {"p": [0, 1, 2]}), (WORLD.row_at, {"p": [0, 1, 2]}),
-    (WORLD.exit_from, {"p": [0, 1, 2], "t": [0, 0, 1]}), (WORLD.first_rates, {}), (WORLD.lines, {}),
-    (World.line_of, {"move": [[0, 1, 2], [0, 0, 1], 2]}), (reached, {"world": WORLD, "start": [0, 1, 2]}),
-    (runs.stays, {"world": WORLD, "start": [0, 1, 2]}), (runs.meets, {"world": WORLD, "start": [0, 0, 1]}),
-    (runs.chain_chance, {"world": WORLD, "chain": [[0, 1, 2], [0, 0, 1]]}),
-    (leaving.exits, {"world": WORLD, "family": FAMILY}), (leaving.memoryless, {"world": WORLD, "family": FAMILY}),
-    (leaving.leaving_time, {"world": WORLD, "family": FAMILY, "start": [0, 0, 1]}),
-    (CLOCK, {"p": [0, 1, 2]}), (CLOCK.bounds, {"p": [0, 1, 2]}), (CLOCK.level, {}),
-    (likeness.factor_at, {"world": WORLD, "other": WORLD * 2, "p": [0, 1, 2]}),
-    (likeness.unlike_chain, {"world": WORLD, "other": WORLD + World(3, [((0, 0, 1), (0, 0, 0), 1)])}),
-    (likeness.unlike_chain, {"world": WORLD, "other": World(3)}),
-    (likeness.same_chains, {"world": WORLD, "other": WORLD}),
-    (steady.finer_than, {"t": [0, 0, 1]}), (steady.is_steady, {"world": WORLD, "t": [0, 0, 1]}),
-    (steady.unsteady_pair, {"world": WORLD, "t": [0, 0, 1]}), (steady.steady_partings, {"world": WORLD}),
-    (steady.steady_to, {"world": WORLD}),
-    (steady.held_time, {"world": WORLD, "t": [0, 0, 1], "start": [0, 1, 2]}),
-    (steady.breaking_table, {"world": WORLD}),
-    (colours.row_exit, {"b": 3, "row": [1, (1, 2), 0, -3, 0], "t": [0, 0, 1]}),
-    (colours.alike_to_colours, {"b": 3, "row": [2, 0, 0, 0, 0], "other": [0, 1, 1, 1, 0], "q": 2}),
-    (colours.unlike_colouring, {"b": 3, "row": [2, 0, 0, 0, 0], "other": [0, 1, 1, 1, 0], "q": 3}),
-    (colours.seen_to, {"b": 3, "row": [1, (1, 2), 0, -3, 0], "q": 2}), (colours.unseen_rows, {"b": 4, "q": 2}),
-    (likejoins.joined_row, {"world": WORLD, "p": [0, 0, 1]}),
-    (likejoins.like_joins_at, {"world": WORLD, "p": [0, 0, 1]}),
-    (likejoins.joins_here, {"world": WORLD, "p": [0, 0, 1], "q": 2}), (likejoins.least_colours, {"world": WORLD}),
-    (likejoins.is_one_lot, {"world": WORLD}), (likejoins.not_one_lot, {"world": WORLD}),
-)
-# These answer by a World, which repr does not tell.
-WORLD_CALLS = (
-    (seen.seen_world, {"world": WORLD, "p": [0, 0, 1]}), (seen.below_world, {"world": WORLD, "t": [0, 0, 1]}),
-    (seen.renamed_world, {"world": WORLD, "names": [2, 0, 1]}), (likejoins.first_joins, {"world": WORLD}),
-)
 
 
 def frozen(value):
@@ -76,50 +22,47 @@ def frozen(value):
     return tuple(frozen(item) for item in value) if isinstance(value, list) else value
 
 
-def told(named):
-    """The arguments with each world as its text."""
-    return {word: value.lines() if isinstance(value, World) else value for word, value in named.items()}
+def plainly(value):
+    """What repr tells of values and lists of them, also where they are objects of the package."""
+    if isinstance(value, World):
+        return (value.KIND, value.lines())
+    if isinstance(value, Chances):
+        return ("chances", value.size, value.table)
+    if isinstance(value, Poly):
+        return ("poly", value.terms)
+    if isinstance(value, (list, tuple)):
+        return type(value)(plainly(item) for item in value)
+    return value
 
 
 class Conventions(Case):
     def test_0_3_by_position_by_name_lists_and_tuples(self):
         for call, named in CALLS:
             with self.subTest(call=call, named=named):
-                answer = call(**named)
-                self.same(call(*named.values()), answer)
-                self.same(call(**{word: frozen(value) for word, value in named.items()}), answer)
+                answer = plainly(call(**named))
+                self.same(plainly(call(*named.values())), answer)
+                self.same(plainly(call(**{word: frozen(value) for word, value in named.items()})), answer)
 
     def test_0_3_arguments_are_not_changed(self):
         for call, named in CALLS:
             with self.subTest(call=call):
-                before = told({word: copy.deepcopy(value) for word, value in named.items()})
+                before = plainly(list(copy.deepcopy(named).values()))
                 call(**named)
-                self.same(told(named), before)
-
-    def test_0_3_answers_that_are_worlds(self):
-        for call, named in WORLD_CALLS:
-            with self.subTest(call=call):
-                before = told({word: copy.deepcopy(value) for word, value in named.items()})
-                answer = call(**named)
-                self.assertEqual(call(*named.values()), answer)
-                self.assertEqual(call(**{word: frozen(value) for word, value in named.items()}), answer)
-                self.same(told(named), before)
+                self.same(plainly(list(named.values())), before)
 
     def test_0_3_returned_lists_are_new(self):
         for call, named in CALLS:
             answer = call(**named)
             if isinstance(answer, list):
-                expected = list(answer)
+                expected = plainly(list(answer))
                 answer.append("more")
                 answer[0] = "other"
-                self.same(call(**named), expected)
+                self.same(plainly(call(**named)), expected)
 
     def test_0_3_what_is_a_list_and_what_a_tuple(self):
-        lists = [partings.partings, partings.coarser_than, WORLD.from_here, reached, steady.finer_than,
-                 steady.steady_partings, colours.unseen_rows]
         for call, named in CALLS:
             with self.subTest(call=call):
-                self.assertEqual(isinstance(call(**named), list), call in lists)
+                self.assertEqual(isinstance(call(**named), list), call in LISTS)
 
     def test_0_3_partings_are_returned_as_tuples(self):
         p = [0, 1, 1]
@@ -210,6 +153,52 @@ class Conventions(Case):
             (OtherSize, 4, lambda: likejoins.joins_here(WORLD, other, 3)),
         ):
             self.refuses(kind, told, call)
+
+    def test_0_4_which_error_is_first_in_join_worlds(self):
+        bad, other, lot = (0, 2), (0, 1, 2, 3), (5, 5)
+        small, great = Chances(2, (1, 0)), Joins(3, (401, 0, 0, 0, 0))
+        for kind, told, call in (
+            (BadNumber, "size", lambda: Joins(0, None, times=-1)), (BadNumber, "times", lambda: Joins(3, 5, times=-1)),
+            (BadTable, -1, lambda: Joins(2, (None,))), (BadTable, 0, lambda: Joins(2, (None, 1))),
+            (BadLot, 0, lambda: Joins.of_lots(3, [(lot, -1), None])),
+            (BadTable, 0, lambda: Joins.of_lots(3, [((0,), -1), (lot, 1)])),
+            (BadLot, 0, lambda: Joins.of_pairs(3, [(1, 1, -1), None])),
+            (BadTable, 0, lambda: Joins.of_pairs(3, [(1, 0, -1), (1, 1, 1)])),
+            (BadNumber, "n", lambda: breaking.wanting_at(9, None)),
+            (BadTable, -1, lambda: breaking.weights_from(2, (None,))),
+            (BadParting, 1, lambda: means.stay_between(JOINS, other, bad)),
+            (OtherSize, 4, lambda: means.stay_between(JOINS, other, (0,))),
+            (BadNumber, "n", lambda: telling.meets_come(1, (5,))),
+            (BadTable, 0, lambda: telling.stays_come(2, (-1, 0))), (BadTable, 1, lambda: telling.stays_come(2, (5, 0))),
+            (BadTable, 0, lambda: telling.meets_to_breaking(2, (2, 0))),
+            (BadNumber, "u", lambda: Poly([(401, 1)])(None)), (TooMany, 401, lambda: Poly([(401, 1)])(0)),
+            (BadParting, 1, lambda: polynomials.both_open_poly(JOINS, other, bad)),
+            (OtherSize, 4, lambda: polynomials.both_open_poly(JOINS, other, (0,))),
+            (BadNumber, "size", lambda: Chances(0, None)), (BadTable, -1, lambda: Chances(2, (None,))),
+            (BadTable, 1, lambda: Chances(2, (5, None))), (BadTable, -1, lambda: Chances(2, (5, 0))),
+            (BadParting, 1, lambda: small.inside((0, 2, 1))), (OtherSize, 3, lambda: small.inside((0, 1, 2))),
+            (NotInside, -1, lambda: small.inside((0, 1))),
+            (BadNumber, "u", lambda: chances.one_time(great, 0)), (TooMany, 401, lambda: chances.one_time(great, 1)),
+            (BadNumber, "size", lambda: missing.chances_of(0, None)),
+            (BadTable, 0, lambda: missing.chances_of(3, [(bad, 2), None])),
+            (BadParting, 0, lambda: missing.chances_of(3, [((0, 1), 1), None])),
+            (OtherSize, 2, lambda: missing.chances_of(3, [((0, 0), 1), None])),
+            (OtherSize, 2, lambda: missing.quotient(CHANCES, small)),
+            (OtherSize, 3, lambda: missing.divides(small, CHANCES)),
+            (NotInside, -1, lambda: missing.divides_by_strokes(small, small)),
+            (NotInside, -1, lambda: missing.misses(small)), (NotJoins, (0, 1), lambda: missing.strokes_of(small)),
+        ):
+            self.refuses(kind, told, call)
+
+    def test_0_4_refused_calls_leave_objects_as_they_are(self):
+        before = plainly([JOINS, CHANCES, POLY])
+        self.refuses(OtherSize, 2, lambda: JOINS + Joins(2, (1, 0)))
+        self.refuses(BadNumber, "k", lambda: JOINS * None)
+        self.refuses(OtherSize, 2, JOINS.without, (0, 1))
+        self.refuses(OtherSize, 2, lambda: CHANCES + Chances(2, (1, 0)))
+        self.refuses(BadNumber, "k", CHANCES.repeated, 0)
+        self.refuses(BadNumber, "u", POLY, None)
+        self.same(plainly([JOINS, CHANCES, POLY]), before)
 
     def test_0_4_a_refused_call_changes_nothing(self):
         before = (WORLD.size, WORLD.moves, WORLD.lines())

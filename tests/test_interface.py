@@ -5,7 +5,10 @@ import importlib
 import inspect
 from pathlib import Path
 
+from mergerates.chances import Chances
+from mergerates.joins import Joins
 from mergerates.leaving import Clock
+from mergerates.polynomials import Poly
 from mergerates.worlds import World
 from tests.case import Case
 
@@ -14,7 +17,8 @@ FOLDER = Path(__file__).resolve().parent.parent / "mergerates"
 
 # The modules in the order of the document; the two helpers are used by all but errors.
 ORDER = ("errors", "checks", "labels", "amounts", "partings", "tables", "tracing",
-         "worlds", "runs", "leaving", "likeness", "seen", "steady", "colours", "likejoins")
+         "worlds", "runs", "leaving", "likeness", "seen", "steady", "colours", "likejoins",
+         "joins", "breaking", "means", "telling", "polynomials", "chances", "missing")
 
 FUNCTIONS = {
     "amounts": {
@@ -59,6 +63,28 @@ FUNCTIONS = {
         "joined_row": "(world, p)", "like_joins_at": "(world, p)", "joins_here": "(world, p, q)",
         "first_joins": "(world)", "least_colours": "(world)", "is_one_lot": "(world)", "not_one_lot": "(world)",
     },
+    "joins": {"joins_of": "(world)"},
+    "breaking": {
+        "breaking_rates": "(j)", "weights_from": "(n, table)", "table_comes": "(n, table)",
+        "wanting_at": "(n, table)",
+    },
+    "means": {
+        "time_below": "(j, t)", "stays_by_sums": "(j)", "stay_between": "(j, p, t)", "last_chances": "(j)",
+        "question_time": "(j, r)", "whole_time": "(j)", "surely_met": "(j)",
+    },
+    "telling": {
+        "weights_from_stays": "(n, table)", "stays_come": "(n, table)", "meets_to_breaking": "(n, table)",
+        "meets_come": "(n, table)", "one_factor": "(j, other)",
+    },
+    "polynomials": {
+        "below_poly": "(j, t)", "chance_polys": "(j)", "open_poly": "(j, r)", "both_open_poly": "(j, r, s)",
+    },
+    "chances": {"one_time": "(j, u)"},
+    "missing": {
+        "chances_of": "(size, strokes)", "misses": "(chances)", "comes_of_strokes": "(chances)",
+        "strokes_of": "(chances)", "quotient": "(chances, other)", "divides": "(other, chances)",
+        "divides_by_strokes": "(other, chances)",
+    },
 }
 
 WORLD = {
@@ -69,6 +95,23 @@ WORLD = {
 }
 
 CLOCK = {"__init__": "(self, world, family)", "__call__": "(self, p)", "level": "(self)", "bounds": "(self, p)"}
+
+JOINS = {
+    "__init__": "(self, size, weights, *, times=1)", "strokes": "(self)", "breaking": "(self, t)",
+    "seen_joins": "(self, p)", "under": "(self, t)", "without": "(self, x)",
+}
+
+POLY = {
+    "__init__": "(self, terms=())", "__add__": "(self, other)", "__sub__": "(self, other)",
+    "__mul__": "(self, other)", "__neg__": "(self)", "__eq__": "(self, other)", "__bool__": "(self)",
+    "__iter__": "(self)", "__call__": "(self, u)", "mean": "(self)", "at_one": "(self)",
+}
+
+CHANCES = {
+    "__init__": "(self, size, table)", "__iter__": "(self)", "__add__": "(self, other)", "__eq__": "(self, other)",
+    "at": "(self, t)", "below": "(self, t)", "above": "(self, r)", "trace_on": "(self, lot)",
+    "inside": "(self, t)", "joined_by": "(self, x)", "repeated": "(self, k)",
+}
 GENERATORS = {"lots_of": "partings", "chains": "runs"}
 
 
@@ -99,22 +142,40 @@ class Interface(Case):
                 self.assertEqual(found, GENERATORS.get(word) == name, word)
 
     def test_clock_defines_its_methods_itself(self):
-        for word, arguments in CLOCK.items():
+        self.defines_itself(Clock, "mergerates.leaving", (object,), CLOCK)
+
+    def defines_itself(self, kind, module, bases, methods):
+        for word, arguments in methods.items():
             with self.subTest(word):
-                self.assertEqual(str(inspect.signature(vars(Clock)[word])), arguments)
-        self.assertEqual(Clock.__module__, "mergerates.leaving")
-        self.assertEqual(Clock.__bases__, (object,))
+                self.assertEqual(str(inspect.signature(vars(kind)[word])), arguments)
+        self.assertEqual((kind.__module__, kind.__bases__), (module, bases))
+
+    def test_joins_defines_its_methods_itself(self):
+        self.defines_itself(Joins, "mergerates.joins", (World,), JOINS)
+        self.assertIsInstance(vars(Joins)["top"], property)
+        self.assertIsInstance(vars(Joins)["of_lots"], classmethod)
+        self.assertIsInstance(vars(Joins)["of_pairs"], classmethod)
+        self.assertEqual(str(inspect.signature(Joins.of_lots)), "(size, lots)")
+        self.assertEqual(str(inspect.signature(Joins.of_pairs)), "(size, pairs)")
+        self.assertEqual(vars(Joins)["KIND"], "joins")
+
+    def test_poly_defines_its_methods_itself(self):
+        self.defines_itself(Poly, "mergerates.polynomials", (object,), POLY)
+        self.assertIsInstance(vars(Poly)["degree"], property)
+        self.assertIsInstance(vars(Poly)["term"], classmethod)
+        self.assertEqual(str(inspect.signature(Poly.term)), "(exponent, coefficient)")
+        self.assertIn("__slots__", vars(Poly))
+
+    def test_chances_defines_its_methods_itself(self):
+        self.defines_itself(Chances, "mergerates.chances", (object,), CHANCES)
 
     def test_world_defines_its_methods_itself(self):
-        for word, arguments in WORLD.items():
-            with self.subTest(word):
-                self.assertEqual(str(inspect.signature(vars(World)[word])), arguments)
+        self.defines_itself(World, "mergerates.worlds", (object,), WORLD)
         self.assertIsInstance(vars(World)["many"], property)
         self.assertIsInstance(vars(World)["line_of"], staticmethod)
         self.assertIsInstance(vars(World)["read"], classmethod)
         self.assertEqual(str(inspect.signature(World.line_of)), "(move)")
         self.assertEqual(str(inspect.signature(World.read)), "(text)")
-        self.assertEqual(World.__module__, "mergerates.worlds")
 
     def test_0_6_modules_use_earlier_ones(self):
         self.assertEqual(sorted([*ORDER, "__init__"]), sorted(path.stem for path in FOLDER.glob("*.py")))
@@ -171,3 +232,35 @@ class Examples(Case):
         self.same([breaking_table(w), least_colours(w), steady_to(w)], [(0, 0, 1, 1, 1), (1, 1, 1, 1, 3), 1])
         self.same(first_joins(w).moves,
                   (((0, 1, 0), (0, 0, 0), 1), ((0, 1, 1), (0, 0, 0), 1), ((0, 1, 2), (0, 0, 1), 1)))
+
+    def test_breaking_rates_and_stays_by_sums(self):
+        from mergerates.breaking import breaking_rates
+        from mergerates.means import stays_by_sums, whole_time
+        j = Joins.of_pairs(3, [(0, 1, 1), (1, 2, 1)])
+        self.same([j.weights, j.top, breaking_rates(j)], [(0, 1, 0, 1, 0), (0, 0, 0), (0, 1, 2, 1, 2)])
+        self.same([stays_by_sums(j), whole_time(j)], [(None, (1, 2), (0, 1), (1, 2), (1, 2)), (3, 2)])
+
+    def test_wanting_at(self):
+        from mergerates.breaking import wanting_at, weights_from
+        table = (0, 1, 1, 1, 2)
+        self.same([weights_from(3, table), wanting_at(3, table)],
+                  [((-1, 1), (1, 1), (1, 1), (1, 1), (0, 1)), (0, 0, 0)])
+
+    def test_meets_to_breaking(self):
+        from mergerates.telling import meets_come, meets_to_breaking
+        table = (1, (1, 2), 0, (1, 2), 1)
+        self.same([meets_to_breaking(3, table), meets_come(3, table)],
+                  [((0, 1), (1, 2), (1, 1), (1, 2), (1, 1)), True])
+
+    def test_open_poly(self):
+        from mergerates.polynomials import open_poly
+        f = open_poly(Joins.of_pairs(3, [(0, 1, 1), (1, 2, 1)]), (0, 0, 0))
+        self.same([f.terms, f.mean(), f((1, 2))], [((1, 2), (2, -1)), (3, 2), (3, 4)])
+
+    def test_chances_of(self):
+        from mergerates.missing import chances_of, comes_of_strokes, misses, strokes_of
+        P = chances_of(3, [((0, 1, 1), (1, 2)), ((0, 0, 1), (1, 2))])
+        self.same([P.table, strokes_of(P)],
+                  [((1, 4), (1, 4), (0, 1), (1, 4), (1, 4)), [((0, 0, 1), (1, 2)), ((0, 1, 1), (1, 2))]])
+        Q = Chances(3, [0, (1, 4), (1, 4), (1, 4), (1, 4)])
+        self.same([comes_of_strokes(Q), misses(Q)], [False, ((2, 1), (1, 2), (1, 2), (1, 2), (1, 1))])

@@ -1,0 +1,110 @@
+"""Calls of all functions of the package with arguments that are right, everything that may be a list being a list."""
+
+from mergerates import (
+    amounts, breaking, chances, colours, joins, leaving, likejoins, likeness, means, missing, partings, polynomials,
+    runs, seen, steady, tables, telling, tracing,
+)
+from mergerates.worlds import World, reached
+
+WORLD = World(3, [((0, 1, 2), (0, 0, 1), 2), ((0, 1, 2), (0, 0, 0), 1), ((0, 0, 1), (0, 0, 0), 4)])
+FAMILY = [[0, 1, 2], [0, 0, 1]]
+CLOCK = leaving.Clock(WORLD, FAMILY)
+
+EARLY_CALLS = (
+    (amounts.fraction, {"top": 6, "bottom": 4}), (amounts.plus, {"f": (1, 2), "g": 1}),
+    (amounts.minus, {"f": (1, 2), "g": 1}), (amounts.multiply, {"f": (1, 2), "g": 3}),
+    (amounts.over, {"f": (1, 2), "g": 3}), (amounts.compare, {"f": (1, 2), "g": 3}),
+    (amounts.power, {"f": (1, 2), "k": 3}), (amounts.total, {"rest": [1, (1, 2), -4]}),
+    (amounts.shown, {"f": (1, 2)}),
+    (partings.singles, {"n": 3}), (partings.whole, {"n": 3}), (partings.lot_parting, {"lot": [2, 0], "n": 4}),
+    (partings.parting_of, {"marks": [4, 2, 4]}), (partings.partings, {"n": 4}),
+    (partings.count_of, {"p": [0, 1, 0]}), (partings.blocks_of, {"p": [0, 1, 0]}),
+    (partings.shape_of, {"p": [0, 1, 0]}), (partings.touched, {"p": [0, 1, 0]}),
+    (partings.together, {"p": [0, 1, 0], "a": 2, "b": 0}), (partings.finer, {"p": [0, 1, 2], "r": [0, 1, 0]}),
+    (partings.join, {"p": [0, 1, 1], "r": [0, 1, 0]}), (partings.meet, {"p": [0, 0, 0], "r": [0, 1, 0]}),
+    (partings.join_all, {"p": [0, 1, 1]}), (partings.trace, {"p": [0, 1, 1], "lot": [2, 0]}),
+    (partings.seen_from, {"p": [0, 1, 1], "r": [0, 0, 0]}), (partings.lifted, {"p": [0, 1, 1], "x": [0, 0]}),
+    (partings.renamed, {"p": [0, 1, 1], "names": [2, 0, 1]}), (partings.coarser_than, {"p": [0, 1, 1]}),
+    (tables.mu, {"p": [0, 1, 2], "r": [0, 1, 1]}), (tables.sums_below, {"n": 2, "table": [(1, 2), 3]}),
+    (tables.sums_above, {"n": 2, "table": [(1, 2), 3]}), (tables.told_below, {"n": 2, "table": [(1, 2), 3]}),
+    (tables.told_above, {"n": 2, "table": [(1, 2), 3]}), (tables.counts_by_touch, {"n": 4}),
+    (tables.without_alone, {"k": 4}), (tables.colour_count, {"p": [0, 1, 0], "k": 3}),
+    (tracing.goes_through, {"rest": [[0, 1, 1], [0, 1, 0]], "lot": [1, 0]}),
+    (tracing.broken_link, {"rest": [[0, 1, 1], [0, 1, 0]], "lot": [1, 0]}),
+    (WORLD, {"p": [0, 1, 2], "r": [0, 0, 1]}), (WORLD.total_from, {"p": [0, 1, 2]}),
+    (WORLD.from_here, {"p": [0, 1, 2]}), (WORLD.is_end, {"p": [0, 1, 2]}), (WORLD.row_at, {"p": [0, 1, 2]}),
+    (WORLD.exit_from, {"p": [0, 1, 2], "t": [0, 0, 1]}), (WORLD.first_rates, {}), (WORLD.lines, {}),
+    (World.line_of, {"move": [[0, 1, 2], [0, 0, 1], 2]}), (reached, {"world": WORLD, "start": [0, 1, 2]}),
+    (runs.stays, {"world": WORLD, "start": [0, 1, 2]}), (runs.meets, {"world": WORLD, "start": [0, 0, 1]}),
+    (runs.chain_chance, {"world": WORLD, "chain": [[0, 1, 2], [0, 0, 1]]}),
+    (leaving.exits, {"world": WORLD, "family": FAMILY}), (leaving.memoryless, {"world": WORLD, "family": FAMILY}),
+    (leaving.leaving_time, {"world": WORLD, "family": FAMILY, "start": [0, 0, 1]}),
+    (CLOCK, {"p": [0, 1, 2]}), (CLOCK.bounds, {"p": [0, 1, 2]}), (CLOCK.level, {}),
+    (likeness.factor_at, {"world": WORLD, "other": WORLD * 2, "p": [0, 1, 2]}),
+    (likeness.unlike_chain, {"world": WORLD, "other": WORLD + World(3, [((0, 0, 1), (0, 0, 0), 1)])}),
+    (likeness.unlike_chain, {"world": WORLD, "other": World(3)}),
+    (likeness.same_chains, {"world": WORLD, "other": WORLD}),
+    (steady.finer_than, {"t": [0, 0, 1]}), (steady.is_steady, {"world": WORLD, "t": [0, 0, 1]}),
+    (steady.unsteady_pair, {"world": WORLD, "t": [0, 0, 1]}), (steady.steady_partings, {"world": WORLD}),
+    (steady.steady_to, {"world": WORLD}),
+    (steady.held_time, {"world": WORLD, "t": [0, 0, 1], "start": [0, 1, 2]}),
+    (steady.breaking_table, {"world": WORLD}),
+    (colours.row_exit, {"b": 3, "row": [1, (1, 2), 0, -3, 0], "t": [0, 0, 1]}),
+    (colours.alike_to_colours, {"b": 3, "row": [2, 0, 0, 0, 0], "other": [0, 1, 1, 1, 0], "q": 2}),
+    (colours.unlike_colouring, {"b": 3, "row": [2, 0, 0, 0, 0], "other": [0, 1, 1, 1, 0], "q": 3}),
+    (colours.seen_to, {"b": 3, "row": [1, (1, 2), 0, -3, 0], "q": 2}), (colours.unseen_rows, {"b": 4, "q": 2}),
+    (likejoins.joined_row, {"world": WORLD, "p": [0, 0, 1]}),
+    (likejoins.like_joins_at, {"world": WORLD, "p": [0, 0, 1]}),
+    (likejoins.joins_here, {"world": WORLD, "p": [0, 0, 1], "q": 2}), (likejoins.least_colours, {"world": WORLD}),
+    (likejoins.is_one_lot, {"world": WORLD}), (likejoins.not_one_lot, {"world": WORLD}),
+    (seen.seen_world, {"world": WORLD, "p": [0, 0, 1]}), (seen.below_world, {"world": WORLD, "t": [0, 0, 1]}),
+    (seen.renamed_world, {"world": WORLD, "names": [2, 0, 1]}), (likejoins.first_joins, {"world": WORLD}),
+)
+
+JOINS = joins.Joins.of_pairs(3, [(0, 1, 1), (1, 2, 1)])
+POLY = polynomials.Poly([(1, 2), (2, -1)])
+CHANCES = missing.chances_of(3, [((0, 1, 1), (1, 2)), ((0, 0, 1), (1, 3))])
+PART = missing.chances_of(3, [((0, 1, 1), (1, 2))])
+
+JOIN_CALLS = (
+    (joins.Joins, {"size": 3, "weights": [1, 0, 2, 0, 0]}),
+    (joins.Joins.of_lots, {"size": 4, "lots": [[[2, 0], 3], [[0, 1, 2], 1]]}),
+    (joins.Joins.of_pairs, {"size": 4, "pairs": [[2, 0, 3], [0, 1, 1]]}),
+    (JOINS.strokes, {}), (JOINS.breaking, {"t": [0, 0, 1]}), (JOINS.seen_joins, {"p": [0, 0, 1]}),
+    (JOINS.under, {"t": [0, 0, 1]}), (JOINS.without, {"x": [0, 0, 1]}),
+    (joins.joins_of, {"world": World(3, JOINS.moves)}),
+    (breaking.breaking_rates, {"j": JOINS}), (breaking.weights_from, {"n": 3, "table": [0, 1, (1, 2), 1, 2]}),
+    (breaking.table_comes, {"n": 3, "table": [0, 1, 1, 1, 2]}),
+    (breaking.wanting_at, {"n": 3, "table": [0, 1, 1, 1, 2]}),
+    (means.time_below, {"j": JOINS, "t": [0, 0, 1]}), (means.stays_by_sums, {"j": JOINS}),
+    (means.stay_between, {"j": JOINS, "p": [0, 1, 2], "t": [0, 0, 1]}), (means.last_chances, {"j": JOINS}),
+    (means.question_time, {"j": JOINS, "r": [0, 1, 0]}), (means.whole_time, {"j": JOINS}),
+    (means.surely_met, {"j": JOINS}),
+    (telling.weights_from_stays, {"n": 3, "table": [None, (1, 2), 0, (1, 2), (1, 2)]}),
+    (telling.stays_come, {"n": 3, "table": [None, (1, 2), 0, (1, 2), (1, 2)]}),
+    (telling.meets_to_breaking, {"n": 3, "table": [1, (1, 2), 0, (1, 2), 1]}),
+    (telling.meets_come, {"n": 3, "table": [1, (1, 2), 0, (1, 2), 1]}),
+    (telling.one_factor, {"j": JOINS, "other": joins.Joins(3, JOINS.weights, times=2)}),
+    (polynomials.Poly, {"terms": [[2, -1], [1, 2]]}), (polynomials.Poly.term, {"exponent": 2, "coefficient": 3}),
+    (POLY, {"u": (1, 2)}), (POLY.mean, {}), (POLY.at_one, {}),
+    (polynomials.below_poly, {"j": JOINS, "t": [0, 0, 1]}), (polynomials.chance_polys, {"j": JOINS}),
+    (polynomials.open_poly, {"j": JOINS, "r": [0, 1, 0]}),
+    (polynomials.both_open_poly, {"j": JOINS, "r": [0, 1, 0], "s": [0, 0, 1]}),
+    (chances.Chances, {"size": 2, "table": [(1, 3), (2, 3)]}), (CHANCES.at, {"t": [0, 0, 1]}),
+    (CHANCES.below, {"t": [0, 0, 1]}), (CHANCES.above, {"r": [0, 0, 1]}), (CHANCES.trace_on, {"lot": [2, 0]}),
+    (CHANCES.inside, {"t": [0, 0, 1]}), (CHANCES.joined_by, {"x": [0, 0, 1]}), (CHANCES.repeated, {"k": 2}),
+    (chances.one_time, {"j": JOINS, "u": (1, 2)}),
+    (missing.chances_of, {"size": 3, "strokes": [[[0, 1, 1], (1, 2)], [[0, 0, 1], 1]]}),
+    (missing.misses, {"chances": CHANCES}), (missing.comes_of_strokes, {"chances": CHANCES}),
+    (missing.strokes_of, {"chances": CHANCES}), (missing.quotient, {"chances": CHANCES, "other": PART}),
+    (missing.divides, {"other": PART, "chances": CHANCES}),
+    (missing.divides_by_strokes, {"other": PART, "chances": CHANCES}),
+)
+
+CALLS = (*EARLY_CALLS, *JOIN_CALLS)
+
+# The calls that return a list; all others return no list.
+LISTS = (
+    partings.partings, partings.coarser_than, WORLD.from_here, reached, steady.finer_than, steady.steady_partings,
+    colours.unseen_rows, JOINS.strokes, means.surely_met, polynomials.chance_polys, missing.strokes_of,
+)
