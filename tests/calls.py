@@ -1,8 +1,8 @@
 """Calls of all functions of the package with arguments that are right, everything that may be a list being a list."""
 
 from mergerates import (
-    amounts, breaking, chances, colours, joins, leaving, likejoins, likeness, means, missing, partings, polynomials,
-    runs, seen, steady, tables, telling, tracing,
+    again, amounts, breaking, chances, colouring, colours, joins, leaving, likejoins, likeness, means, missing,
+    nesting, partings, polynomials, runs, seen, serving, splits, steady, tables, telling, together, tracing,
 )
 from mergerates.worlds import World, reached
 
@@ -101,10 +101,41 @@ JOIN_CALLS = (
     (missing.divides_by_strokes, {"other": PART, "chances": CHANCES}),
 )
 
-CALLS = (*EARLY_CALLS, *JOIN_CALLS)
+STROKE = {"j": JOINS, "x": [0, 0, 1], "r": [0, 1, 0]}
+TWO = {"j": JOINS, "r": [0, 1, 0], "s": [0, 0, 1]}
+SIDES = {"j": JOINS, "side": [2], "other": [1, 0]}
+REST = {"j": JOINS, "lot": [2, 1]}
+
+LATE_CALLS = (
+    (colouring.colour_sum, {"chances": CHANCES, "k": 3}), (colouring.by_colourings, {"chances": CHANCES, "k": 3}),
+    (colouring.joined_sum, {"chances": CHANCES}),
+    (splits.splits_of, {"lot": [4, 1, 0]}), (splits.breaks, SIDES),
+    (splits.extensions, {"n": 4, "side": [2], "other": [0]}), (splits.least_extension, SIDES),
+    (splits.apart_poly, SIDES), (splits.memory_free, SIDES),
+    (again.stays_joins, REST), (again.failing_strokes, {"j": JOINS, "lot": [2, 0]}), (again.rest_joins, REST),
+    (again.may_leave, {"j": JOINS, "z": 1}), (again.leavable, {"j": JOINS}),
+    (again.traced_chances, {"j": JOINS, "lot": [2, 0], "u": (1, 2)}),
+    (nesting.nest, {"p": [0, 0, 1], "r": [0, 1, 1]}), (nesting.union_is_parting, {"p": [0, 0, 1], "r": [0, 1, 1]}),
+    (nesting.unnested, {"j": JOINS}), (nesting.nested, {"j": JOINS}), (nesting.meeting_rates, {"j": JOINS}),
+    (nesting.lots_from_rates, {"table": [[None, 3, 1], [3, None, 1], [1, 1, None]]}),
+    (serving.gatherings, {"j": JOINS}), (serving.serves, STROKE), (serving.served_at, STROKE),
+    (serving.servers, {"j": JOINS, "r": [0, 1, 0]}), (serving.both_served, TWO), (serving.closing_at_once, TWO),
+    (serving.chance_at_once, TWO),
+    (together.closed_chance, {"j": JOINS, "r": [0, 1, 0], "u": (1, 2)}),
+    (together.both_closed, {**TWO, "u": (1, 2)}), (together.covariance, {**TWO, "u": (1, 2)}),
+    (together.independent, TWO), (together.lots_independent, {"j": JOINS, "lots": [[2, 0], [1]]}),
+    (together.sharing_stroke, {"j": JOINS, "lots": [[2, 0], [1]]}),
+    (together.together_chances, {"j": JOINS, "lots": [[2, 0], [1]], "u": (1, 2)}), (together.first_time, TWO),
+    (together.product_time, TWO), (together.parts_independent, {"j": JOINS, "t": [0, 0, 1]}),
+    (together.way_between, {"j": JOINS, "a": 0, "b": 1, "c": 2, "d": 0}),
+)
+
+CALLS = (*EARLY_CALLS, *JOIN_CALLS, *LATE_CALLS)
 
 # The calls that return a list; all others return no list.
 LISTS = (
     partings.partings, partings.coarser_than, WORLD.from_here, reached, steady.finer_than, steady.steady_partings,
     colours.unseen_rows, JOINS.strokes, means.surely_met, polynomials.chance_polys, missing.strokes_of,
+    splits.splits_of, splits.breaks, splits.extensions, nesting.meeting_rates, nesting.lots_from_rates,
+    serving.gatherings, serving.servers, serving.both_served, serving.closing_at_once, together.together_chances,
 )

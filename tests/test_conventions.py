@@ -3,12 +3,12 @@
 import copy
 
 from mergerates import (
-    amounts, breaking, chances, colours, joins, leaving, likejoins, likeness, means, missing, partings, polynomials,
-    runs, seen, steady, tables, telling, tracing,
+    again, amounts, breaking, chances, colouring, colours, leaving, likejoins, likeness, means, missing, nesting,
+    partings, polynomials, runs, seen, serving, splits, steady, tables, telling, together, tracing,
 )
 from mergerates.chances import Chances
 from mergerates.errors import (
-    BadLot, BadNumber, BadParting, BadTable, NotFiner, NotInside, NotJoins, OtherSize, TooMany,
+    BadLot, BadNumber, BadParting, BadTable, BadTriple, NotFiner, NotInside, NotJoins, NotOneLot, OtherSize, TooMany,
 )
 from mergerates.joins import Joins
 from mergerates.polynomials import Poly
@@ -187,6 +187,46 @@ class Conventions(Case):
             (OtherSize, 3, lambda: missing.divides(small, CHANCES)),
             (NotInside, -1, lambda: missing.divides_by_strokes(small, small)),
             (NotInside, -1, lambda: missing.misses(small)), (NotJoins, (0, 1), lambda: missing.strokes_of(small)),
+        ):
+            self.refuses(kind, told, call)
+
+    def test_0_4_which_error_is_first_in_questions(self):
+        bad, other, lot, none = (0, 2), (0, 1, 2, 3), (5, 5), Joins(3, (0,) * 5)
+        great = Joins(3, (401, 0, 0, 0, 0))
+        lots = [((None, 3, 1), (3, None, 2), (1, 2, None)), ((None, 3, 1), (3, None, 2), (1, 3, None))]
+        for kind, told, call in (
+            (BadNumber, "k", lambda: colouring.by_colourings(CHANCES, 7)),
+            (BadLot, 0, lambda: splits.breaks(JOINS, lot[:1], ())),
+            (BadLot, 1, lambda: splits.breaks(JOINS, (0,), (0, 0))),
+            (BadNumber, "n", lambda: splits.extensions(0, None, None)),
+            (BadLot, 1, lambda: splits.memory_free(JOINS, (0, 1), (1,))),
+            (BadLot, 0, lambda: again.failing_strokes(Joins(6, [1] * 202 + [0]), (9, 9))),
+            (NotJoins, (0, 0, 0), lambda: again.rest_joins(JOINS, (0, 2))),
+            (BadLot, 0, lambda: again.may_leave(Joins(1, (0,)), 1)),
+            (BadLot, -1, lambda: again.may_leave(Joins(1, (0,)), 0)),
+            (BadNumber, "u", lambda: again.traced_chances(great, lot, 0)),
+            (BadLot, 0, lambda: again.traced_chances(great, lot, 1)),
+            (TooMany, 401, lambda: again.traced_chances(great, (0,), 1)),
+            (BadParting, 1, lambda: nesting.nest(other, bad)), (OtherSize, 4, lambda: nesting.nest((0,), other)),
+            (BadTriple, (0, 1, 2), lambda: nesting.lots_from_rates(lots[0])),
+            (BadTable, 2, lambda: nesting.lots_from_rates(lots[1])),
+            (BadParting, 1, lambda: serving.gatherings(none, without=bad)),
+            (OtherSize, 4, lambda: serving.gatherings(none, without=other)),
+            (NotInside, -1, lambda: serving.gatherings(none, without=(0, 0, 0))),
+            (BadParting, 1, lambda: serving.serves(none, other, bad)),
+            (OtherSize, 4, lambda: serving.serves(none, (0, 0, 0), other)),
+            (NotInside, -1, lambda: serving.served_at(none, (0, 0, 0), (0, 0, 0))),
+            (BadParting, 1, lambda: serving.both_served(none, other, bad)),
+            (OtherSize, 4, lambda: serving.chance_at_once(none, other, (0,))),
+            (BadNumber, "u", lambda: together.both_closed(great, bad, bad, 0)),
+            (BadParting, 1, lambda: together.both_closed(great, other, bad, 1)),
+            (OtherSize, 4, lambda: together.covariance(great, (0, 0, 0), other, 1)),
+            (TooMany, 401, lambda: together.covariance(great, (0, 0, 0), (0, 0, 0), 1)),
+            (BadNumber, "u", lambda: together.together_chances(great, None, 0)),
+            (BadLot, 0, lambda: together.together_chances(great, [lot, ()], 1)),
+            (TooMany, 401, lambda: together.together_chances(great, [(0,)], 1)),
+            (BadLot, 3, lambda: together.way_between(great, 0, 0, 0, 3)),
+            (NotOneLot, (0, 0, 0), lambda: together.way_between(great, 0, 0, 0, 0)),
         ):
             self.refuses(kind, told, call)
 

@@ -18,7 +18,8 @@ FOLDER = Path(__file__).resolve().parent.parent / "mergerates"
 # The modules in the order of the document; the two helpers are used by all but errors.
 ORDER = ("errors", "checks", "labels", "amounts", "partings", "tables", "tracing",
          "worlds", "runs", "leaving", "likeness", "seen", "steady", "colours", "likejoins",
-         "joins", "breaking", "means", "telling", "polynomials", "chances", "missing")
+         "joins", "breaking", "means", "telling", "polynomials", "chances", "missing", "colouring",
+         "splits", "again", "nesting", "serving", "together")
 
 FUNCTIONS = {
     "amounts": {
@@ -84,6 +85,31 @@ FUNCTIONS = {
         "chances_of": "(size, strokes)", "misses": "(chances)", "comes_of_strokes": "(chances)",
         "strokes_of": "(chances)", "quotient": "(chances, other)", "divides": "(other, chances)",
         "divides_by_strokes": "(other, chances)",
+    },
+    "colouring": {
+        "colour_sum": "(chances, k)", "by_colourings": "(chances, k)", "joined_sum": "(chances)",
+    },
+    "splits": {
+        "splits_of": "(lot)", "breaks": "(j, side, other)", "extensions": "(n, side, other)",
+        "least_extension": "(j, side, other)", "apart_poly": "(j, side, other)", "memory_free": "(j, side, other)",
+    },
+    "again": {
+        "stays_joins": "(j, lot)", "failing_strokes": "(j, lot)", "rest_joins": "(j, lot)", "may_leave": "(j, z)",
+        "leavable": "(j)", "traced_chances": "(j, lot, u)",
+    },
+    "nesting": {
+        "nest": "(p, r)", "union_is_parting": "(p, r)", "unnested": "(j)", "nested": "(j)",
+        "meeting_rates": "(j)", "lots_from_rates": "(table)",
+    },
+    "serving": {
+        "gatherings": "(j, *, without=None)", "serves": "(j, x, r)", "served_at": "(j, x, r)", "servers": "(j, r)",
+        "both_served": "(j, r, s)", "closing_at_once": "(j, r, s)", "chance_at_once": "(j, r, s)",
+    },
+    "together": {
+        "closed_chance": "(j, r, u)", "both_closed": "(j, r, s, u)", "covariance": "(j, r, s, u)",
+        "independent": "(j, r, s)", "lots_independent": "(j, lots)", "sharing_stroke": "(j, lots)",
+        "together_chances": "(j, lots, u)", "first_time": "(j, r, s)", "product_time": "(j, r, s)",
+        "parts_independent": "(j, t)", "way_between": "(j, a, b, c, d)",
     },
 }
 
@@ -264,3 +290,38 @@ class Examples(Case):
                   [((1, 4), (1, 4), (0, 1), (1, 4), (1, 4)), [((0, 0, 1), (1, 2)), ((0, 1, 1), (1, 2))]])
         Q = Chances(3, [0, (1, 4), (1, 4), (1, 4), (1, 4)])
         self.same([comes_of_strokes(Q), misses(Q)], [False, ((2, 1), (1, 2), (1, 2), (1, 2), (1, 1))])
+
+    def test_leavable(self):
+        from mergerates.again import failing_strokes, leavable, rest_joins
+        from mergerates.splits import apart_poly, least_extension
+        j = Joins.of_pairs(3, [(0, 1, 1), (1, 2, 1)])
+        self.same([leavable(j), failing_strokes(j, (0, 2)), rest_joins(j, (1, 2)).weights],
+                  [(0, 2), ((0, 0, 1), (0, 1, 1)), (1, 0)])
+        self.same([apart_poly(j, (0,), (2,)).terms, least_extension(j, (0,), (2,)), least_extension(j, (0,), (1,))],
+                  [((1, 2), (2, -1)), None, ((0,), (1, 2))])
+
+    def test_lots_from_rates(self):
+        from mergerates.nesting import lots_from_rates
+        self.same(lots_from_rates([(None, 3, 1), (3, None, 1), (1, 1, None)]), [((0, 1), 2), ((0, 1, 2), 1)])
+
+    def test_servers(self):
+        from mergerates.serving import chance_at_once, closing_at_once, servers
+        j = Joins.of_pairs(3, [(0, 1, 1), (1, 2, 1)])
+        r = (0, 1, 0)
+        s = (0, 0, 1)
+        self.same([servers(j, r), closing_at_once(j, r, s), chance_at_once(j, r, s)],
+                  [[(0, 0, 1), (0, 1, 1)], [((0, 1, 1), (0, 0, 1))], (1, 2)])
+
+    def test_covariance(self):
+        from mergerates.together import covariance, first_time, product_time
+        j = Joins.of_lots(4, [((0, 1), 1), ((0, 1, 2, 3), 1)])
+        r = (0, 0, 1, 2)
+        s = (0, 1, 2, 2)
+        self.same([covariance(j, r, s, (1, 2)), first_time(j, r, s), product_time(j, r, s)],
+                  [(1, 8), (1, 2), (1, 3)])
+
+    def test_together_chances(self):
+        from mergerates.together import together_chances
+        j = Joins.of_lots(4, [((0, 1), 1), ((0, 1, 2, 3), 1)])
+        self.same(together_chances(j, [(0, 1), (3, 2)], (1, 2)),
+                  [(((0, 0), (0, 0)), (1, 2)), (((0, 0), (0, 1)), (1, 4)), (((0, 1), (0, 1)), (1, 4))])

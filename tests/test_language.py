@@ -1,6 +1,7 @@
 """[0.1] and the rules of the language that can be seen without running the program."""
 
 import ast
+import builtins
 import re
 from pathlib import Path
 
@@ -135,7 +136,8 @@ class Language(Case):
                         self.assertNotIn("\x25", node.value, name)
 
     def test_l8_builtins(self):
-        every = set(dir(__builtins__)) if not isinstance(__builtins__, dict) else set(__builtins__)
+        # doctest leaves its last answer among the builtins, as `_`.
+        every = set(dir(builtins)) - {"_"}
         for name, tree in trees():
             for node in ast.walk(tree):
                 if isinstance(node, ast.Name) and node.id in every:
