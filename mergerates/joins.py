@@ -4,7 +4,7 @@ from mergerates.checks import (
     check_count, check_size, is_count, is_list, is_name, parting_on, weights_taken, wrong_name,
 )
 from mergerates.errors import BadLot, BadTable, NotJoins
-from mergerates.labels import all_partings, all_singles, block_count, is_finer, joined, joined_all, relabelled
+from mergerates.labels import all_partings, all_singles, block_count, is_finer, joined, joined_all, lot_label
 from mergerates.worlds import World
 
 
@@ -37,15 +37,23 @@ def check_entry(entry, many, place):
         raise BadTable(place)
 
 
-def lot_entry(entry, size, place):
-    """The tuple (lot, weight) that an entry at this place of a list is."""
+def lot_of_entry(entry, size, place):
+    """The lot of an entry (lot, number) at this place of a list; the number is not looked at yet."""
     check_entry(entry, 2, place)
-    lot, weight = entry
+    lot = entry[0]
     if wrong_name(lot, size) is not None:
         raise BadLot(place)
-    if len(lot) < 2 or not is_count(weight):
+    if len(lot) < 2:
         raise BadTable(place)
-    return (lot, weight)
+    return lot
+
+
+def lot_entry(entry, size, place):
+    """The tuple (lot, weight) that an entry at this place of a list is."""
+    lot = lot_of_entry(entry, size, place)
+    if not is_count(entry[1]):
+        raise BadTable(place)
+    return (lot, entry[1])
 
 
 def pair_entry(entry, size, place):
@@ -63,7 +71,7 @@ def weights_of_lots(size, entries):
     """The table of weights that has the weights of the entries (lot, weight) at the partings of their lots."""
     weights = {x: 0 for x in all_partings(size)}
     for lot, weight in entries:
-        weights[relabelled([-1 if name in lot else name for name in range(size)])] += weight
+        weights[lot_label(lot, size)] += weight
     return tuple([weights[x] for x in weights])
 
 

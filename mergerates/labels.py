@@ -34,6 +34,11 @@ def subsets(n, size):
     return list(combinations(range(n), size))
 
 
+def lot_label(lot, n):
+    """The parting with the names of the lot in one block and all others alone."""
+    return relabelled([-1 if name in lot else name for name in range(n)])
+
+
 def block_count(p):
     return max(p) + 1
 

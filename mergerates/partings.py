@@ -6,7 +6,7 @@ from mergerates.checks import (
 )
 from mergerates.errors import BadLot, BadParting, NotFiner
 from mergerates.labels import (
-    all_partings, all_singles, block_count, block_names, coarser, is_finer, joined, joined_all, raised,
+    all_partings, all_singles, block_count, block_names, coarser, is_finer, joined, joined_all, lot_label, raised,
     rearranged, relabelled, subsets, traced, viewed,
 )
 
@@ -26,8 +26,7 @@ def whole(n):
 def lot_parting(lot, n):
     """The parting with the names of the lot in one block and all others alone."""
     check_size(n, "n")
-    taken = lot_taken(lot, n)
-    return relabelled([-1 if name in taken else name for name in range(n)])
+    return lot_label(lot_taken(lot, n), n)
 
 
 def parting_of(marks):

@@ -1,8 +1,9 @@
 """Calls of all functions of the package with arguments that are right, everything that may be a list being a list."""
 
 from mergerates import (
-    again, amounts, breaking, chances, colouring, colours, joins, leaving, likejoins, likeness, means, missing,
-    nesting, partings, polynomials, runs, seen, serving, splits, steady, tables, telling, together, tracing,
+    again, amounts, breaking, chances, colouring, colours, fair, halves, joins, leaving, likejoins, likeness, lotrows,
+    means, missing, nesting, partings, polynomials, rows, runs, seen, serving, splits, steady, stretches, tables,
+    telling, together, tracing, twins, unseen,
 )
 from mergerates.worlds import World, reached
 
@@ -130,7 +131,40 @@ LATE_CALLS = (
     (together.way_between, {"j": JOINS, "a": 0, "b": 1, "c": 2, "d": 0}),
 )
 
-CALLS = (*EARLY_CALLS, *JOIN_CALLS, *LATE_CALLS)
+STRETCHES = stretches.Stretches(3, (1, 0, 0, 2, 0), (1, 0, 1, 3, 0))
+COUNTS = rows.Counts(4, (1, 0, 2, 1))
+ROW = [2, (1, 2), 0, -1, 0]
+CUTS = {"n": 3, "numbers": [1, (1, 2), -3]}
+COUNT_ROW = {"m": 4, "numbers": [1, (1, 2), 0, 3]}
+
+ROW_CALLS = (
+    (stretches.Stretches, {"size": 2, "lows": [1, 0], "highs": [2, 0]}),
+    (STRETCHES.low_joins, {}), (STRETCHES.high_joins, {}), (STRETCHES.agrees, {"j": JOINS}), (STRETCHES.wide, {}),
+    (stretches.closed_ends, {"stretches": STRETCHES, "r": [0, 0, 0], "u": (1, 2)}),
+    (stretches.time_ends, {"stretches": STRETCHES, "r": [0, 0, 0]}),
+    (stretches.ends_unlike, {"stretches": STRETCHES, "r": [0, 0, 0]}),
+    (halves.cuts, {"n": 3}), (halves.even_lots, {"n": 4}), (halves.even_at, {"x": [0, 1, 0], "lot": [2, 0]}),
+    (halves.half, {"n": 3, "row": ROW, "lot": [2, 0]}), (halves.halves, {"n": 3, "row": ROW}),
+    (halves.cut_rates, {"n": 3, "row": ROW}), (halves.cuts_from_halves, CUTS), (halves.halves_from_cuts, CUTS),
+    (twins.twin, {"n": 3, "row": ROW}), (twins.twin_from_cuts, CUTS), (twins.twin_number, {"size": 5, "part": 2}),
+    (twins.has_true_twin, {"n": 3, "row": ROW}), (twins.same_to_two, {"n": 3, "row": ROW, "other": [0] * 5}),
+    (lotrows.lot_row, {"n": 3, "lots": [[[2, 0], (1, 2)], [[0, 1, 2], -1]]}),
+    (lotrows.inside_rates, {"n": 3, "row": ROW}), (lotrows.lots_from_exits, {"n": 3, "exits": [0, 2, 3, (1, 2), 3]}),
+    (lotrows.triangle, {"first": 1, "second": (1, 2), "third": 3}),
+    (lotrows.from_triangle, {"first": 1, "second": (1, 2), "third": 3}),
+    (rows.shapes, {"m": 4}), (rows.spread, COUNT_ROW), (rows.numbers_of, {"m": 3, "row": [1, 2, 2, 2, 0]}),
+    (rows.trace_row, {"b": 3, "row": ROW, "lot": [2, 0]}), (rows.trace_numbers, {**COUNT_ROW, "k": 3}),
+    (rows.lots_numbers, {"m": 4, "rates": [1, (1, 2), 0]}), (rows.row_total, COUNT_ROW), (rows.totals, COUNT_ROW),
+    (rows.Counts, {"size": 3, "numbers": [1, 2]}), (COUNTS.numbers_at, {"b": 3}),
+    (fair.going, {"world": WORLD, "lot": [1, 0], "p": [0, 1, 2]}), (fair.is_fair, {"world": COUNTS, "m": 2}),
+    (fair.fair_to, {"world": COUNTS}), (fair.unfair_at, {"world": WORLD, "m": 2}),
+    (fair.row_seen, {"world": COUNTS, "m": 3}), (fair.pair_rate, {"world": COUNTS}),
+    (unseen.alike_to_names, {"b": 3, "row": ROW, "other": [0] * 5, "m": 2}),
+    (unseen.unseen_by_names, {"b": 4, "m": 2}), (unseen.lots_unseen, {"b": 4, "m": 2}),
+    (unseen.names_matter, {"world": WORLD, "p": [0, 1, 2]}),
+)
+
+CALLS = (*EARLY_CALLS, *JOIN_CALLS, *LATE_CALLS, *ROW_CALLS)
 
 # The calls that return a list; all others return no list.
 LISTS = (
@@ -138,4 +172,5 @@ LISTS = (
     colours.unseen_rows, JOINS.strokes, means.surely_met, polynomials.chance_polys, missing.strokes_of,
     splits.splits_of, splits.breaks, splits.extensions, nesting.meeting_rates, nesting.lots_from_rates,
     serving.gatherings, serving.servers, serving.both_served, serving.closing_at_once, together.together_chances,
+    STRETCHES.wide, halves.cuts, halves.even_lots, rows.shapes, fair.going, unseen.unseen_by_names, unseen.lots_unseen,
 )

@@ -4,11 +4,14 @@ from functools import lru_cache
 
 from mergerates.colours import unseen_rows
 from mergerates.partings import lifted
+from mergerates.rows import Counts
 from mergerates.worlds import World
 from tests import plain
 
 SIZES = (1, 2, 3, 4)
 GREAT = 10 ** 14
+# Count rows of the counts worlds, one lot at a time and others, one of zeros.
+COUNT_ROWS = {2: ((3,),), 3: ((2, 1), (0, 5)), 4: ((1, 0, 0, 0), (2, 1, 0, 3), (0, 0, GREAT, 1), (0, 0, 0, 0))}
 
 
 def numbers(seed):
@@ -99,7 +102,13 @@ def moves_on(n):
 
 @lru_cache(maxsize=None)
 def worlds_on(n):
-    return tuple(World(n, moves) for moves in moves_on(n))
+    """The worlds of these moves, then the counts worlds."""
+    return (*[World(n, moves) for moves in moves_on(n)], *[Counts(n, numbers) for numbers in COUNT_ROWS.get(n, ())])
+
+
+def moves_told(world):
+    """The moves by plain loops over all pairs, from what the world answers when it is called."""
+    return [(p, r, world(p, r)) for p, r in strict_pairs(world.size)]
 
 
 def all_worlds(sizes=SIZES):
@@ -107,6 +116,8 @@ def all_worlds(sizes=SIZES):
     for n in sizes:
         for moves, world in zip(moves_on(n), worlds_on(n)):
             yield n, plain.rates_told(moves), world
+        for world in worlds_on(n)[len(moves_on(n)):]:
+            yield n, plain.rates_told(moves_told(world)), world
 
 
 def some_families(n):

@@ -3,17 +3,21 @@
 import copy
 
 from mergerates import (
-    again, amounts, breaking, chances, colouring, colours, leaving, likejoins, likeness, means, missing, nesting,
-    partings, polynomials, runs, seen, serving, splits, steady, tables, telling, together, tracing,
+    again, amounts, breaking, chances, colouring, colours, fair, halves, leaving, likejoins, likeness, lotrows, means,
+    missing, nesting, partings, polynomials, rows, runs, seen, serving, splits, steady, stretches, tables, telling,
+    together, tracing, twins, unseen,
 )
 from mergerates.chances import Chances
 from mergerates.errors import (
-    BadLot, BadNumber, BadParting, BadTable, BadTriple, NotFiner, NotInside, NotJoins, NotOneLot, OtherSize, TooMany,
+    BadLot, BadNumber, BadParting, BadTable, BadTriple, NotFair, NotFiner, NotInside, NotJoins, NotOneLot, OtherSize,
+    TooMany,
 )
 from mergerates.joins import Joins
 from mergerates.polynomials import Poly
+from mergerates.rows import Counts
+from mergerates.stretches import Stretches
 from mergerates.worlds import World, reached
-from tests.calls import CALLS, CHANCES, CLOCK, JOINS, LISTS, POLY, WORLD
+from tests.calls import CALLS, CHANCES, CLOCK, JOINS, LISTS, POLY, STRETCHES, WORLD
 from tests.case import NO_AMOUNTS, Case
 
 
@@ -30,6 +34,8 @@ def plainly(value):
         return ("chances", value.size, value.table)
     if isinstance(value, Poly):
         return ("poly", value.terms)
+    if isinstance(value, Stretches):
+        return ("stretches", value.size, value.lows, value.highs)
     if isinstance(value, (list, tuple)):
         return type(value)(plainly(item) for item in value)
     return value
@@ -230,15 +236,55 @@ class Conventions(Case):
         ):
             self.refuses(kind, told, call)
 
+    def test_0_4_which_error_is_first_in_rows(self):
+        bad, other, lot = (0, 2), (0, 1, 2, 3), (5, 5)
+        great = Stretches(3, (0,) * 5, (401, 0, 0, 0, 0))
+        for kind, told, call in (
+            (BadNumber, "size", lambda: Stretches(0, None, None)), (BadTable, -1, lambda: Stretches(2, None, (0, 5))),
+            (BadTable, 1, lambda: Stretches(2, (0, 5), None)), (BadTable, 0, lambda: Stretches(2, (1, 0), (0, 5))),
+            (BadNumber, "u", lambda: stretches.closed_ends(great, bad, 0)),
+            (BadParting, 1, lambda: stretches.closed_ends(great, bad, 1)),
+            (OtherSize, 4, lambda: stretches.closed_ends(great, other, 1)),
+            (TooMany, 401, lambda: stretches.closed_ends(great, (0, 0, 0), 1)),
+            (BadNumber, "n", lambda: halves.half(1, None, lot)), (BadLot, 0, lambda: halves.half(3, None, lot)),
+            (BadLot, -1, lambda: halves.half(3, None, (0, 1, 2))), (BadTable, -1, lambda: halves.half(3, None, (0, 1))),
+            (BadParting, 1, lambda: halves.even_at(bad, lot)), (BadLot, 0, lambda: halves.even_at((0, 1), lot)),
+            (BadNumber, "n", lambda: halves.cuts_from_halves(7, None)),
+            (BadNumber, "n", lambda: twins.same_to_two(1, None, None)),
+            (BadTable, 1, lambda: twins.same_to_two(2, (0, 5), None)),
+            (BadTable, -1, lambda: twins.same_to_two(2, (0, 0), None)),
+            (BadNumber, "size", lambda: twins.twin_number(1, 1)), (BadNumber, "part", lambda: twins.twin_number(2, 1)),
+            (BadNumber, "n", lambda: lotrows.lot_row(1, None)),
+            (BadLot, 0, lambda: lotrows.lot_row(3, [(lot, None), None])),
+            (BadTable, 0, lambda: lotrows.lot_row(3, [((0,), None), (lot, 1)])),
+            (BadTable, 4, lambda: lotrows.inside_rates(3, (0, 0, 0, 0, 1))),
+            (BadTable, 14, lambda: lotrows.inside_rates(4, [1] * 15)),
+            (NotOneLot, (0, 0, 1, 1), lambda: lotrows.inside_rates(4, [1] * 14 + [0])),
+            (BadNumber, "second", lambda: lotrows.triangle(1, None, None)),
+            (BadNumber, "m", lambda: rows.trace_numbers(1, None, 9)),
+            (BadNumber, "k", lambda: rows.trace_numbers(3, None, 9)),
+            (BadNumber, "b", lambda: rows.trace_row(0, None, lot)), (BadLot, 0, lambda: rows.trace_row(3, None, lot)),
+            (BadNumber, "size", lambda: Counts(1, None, times=-1)),
+            (BadNumber, "times", lambda: Counts(2, None, times=-1)), (BadTable, -1, lambda: Counts(3, (-1,))),
+            (BadParting, 1, lambda: fair.going(WORLD, lot, bad)), (OtherSize, 4, lambda: fair.going(WORLD, lot, other)),
+            (BadLot, 0, lambda: fair.going(WORLD, lot, (0, 0, 0))), (BadNumber, "m", lambda: fair.row_seen(WORLD, 3)),
+            (NotFair, (0, 1, 0), lambda: fair.row_seen(WORLD, 2)),
+            (BadNumber, "b", lambda: unseen.alike_to_names(0, None, None, 0)),
+            (BadNumber, "m", lambda: unseen.alike_to_names(2, None, None, 3)),
+            (BadTable, 1, lambda: unseen.alike_to_names(2, (0, 5), None, 2)),
+        ):
+            self.refuses(kind, told, call)
+
     def test_0_4_refused_calls_leave_objects_as_they_are(self):
-        before = plainly([JOINS, CHANCES, POLY])
+        before = plainly([JOINS, CHANCES, POLY, STRETCHES])
+        self.refuses(OtherSize, 2, STRETCHES.agrees, Joins(2, (1, 0)))
         self.refuses(OtherSize, 2, lambda: JOINS + Joins(2, (1, 0)))
         self.refuses(BadNumber, "k", lambda: JOINS * None)
         self.refuses(OtherSize, 2, JOINS.without, (0, 1))
         self.refuses(OtherSize, 2, lambda: CHANCES + Chances(2, (1, 0)))
         self.refuses(BadNumber, "k", CHANCES.repeated, 0)
         self.refuses(BadNumber, "u", POLY, None)
-        self.same(plainly([JOINS, CHANCES, POLY]), before)
+        self.same(plainly([JOINS, CHANCES, POLY, STRETCHES]), before)
 
     def test_0_4_a_refused_call_changes_nothing(self):
         before = (WORLD.size, WORLD.moves, WORLD.lines())
@@ -252,6 +298,20 @@ class Conventions(Case):
         self.same(amounts.power((top, top - 1), 37), (top ** 37, (top - 1) ** 37))
         moves = [((0, 1), (0, 0), 10 ** 14)] * 2500
         self.same(World(2, moves).moves, (((0, 1), (0, 0), 2500 * 10 ** 14),))
+
+    def test_0_5_sizes_of_rows(self):
+        top = 10 ** 40 - 1
+        row = [(place + 1, top - 1) if place % 2 else (1, top - place) for place in range(202)] + [0]
+        row = [amounts.fraction(*number) if isinstance(number, tuple) else number for number in row]
+        every = halves.cut_rates(6, row)
+        self.same(halves.halves_from_cuts(6, every), halves.halves(6, row))
+        self.same(halves.cut_rates(6, twins.twin(6, row)), every)
+        v = [amounts.fraction(place + 1, top - place) for place in range(10)]
+        self.same(rows.totals(6, v)[-1], amounts.total(rows.spread(6, v)))
+        c = Counts(6, [10 ** 14] * 10)
+        self.same([fair.fair_to(c), fair.pair_rate(c)], [5, sum(c.numbers_at(2))])
+        j = Joins(6, [10 ** 14 - place for place in range(202)] + [0])
+        self.same(stretches.time_ends(Stretches(6, j.weights, j.weights), (0,) * 6), (means.whole_time(j),) * 2)
 
     def test_0_5_sizes_of_worlds(self):
         # All moves on six names at great rates, the same from each parting: the stays are told by few digits.

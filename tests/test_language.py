@@ -19,6 +19,10 @@ BARRED = re.compile(r"\b(type|typing|enum|Enum|namedtuple|dataclass|abstractmeth
 METHODS = set("""append clear copy count endswith extend find get index insert isalnum isalpha isdigit islower isspace
     isupper items join keys ljust lower lstrip partition pop remove replace reverse rfind rjust rpartition rsplit
     rstrip setdefault split splitlines startswith strip update upper values zfill bit_length""".split())
+# What is iterated where it stands, and what may take it whole.
+LAZY = ("zip", "enumerate", "reversed", "range", "items", "keys", "values", "combinations", "product", "permutations")
+TAKERS = ("list", "tuple", "dict", "sorted", "sum", "any", "all", "enumerate", "zip", "min", "max", "combinations",
+          "product", "permutations", "reversed", "len")
 WRONG_NODES = (ast.Div, ast.Global, ast.AsyncFunctionDef, ast.Await, ast.Import)
 
 
@@ -118,6 +122,18 @@ class Language(Case):
         for name, tree in trees():
             used = [node.id for node in ast.walk(tree) if isinstance(node, ast.Name)]
             self.assertEqual(found & {*used, *bound_inside(tree)}, set(), name)
+
+    def test_l23_iterated_at_once(self):
+        for name, tree in trees():
+            around = {inner: node for node in ast.walk(tree) for inner in ast.iter_child_nodes(node)}
+            for node in ast.walk(tree):
+                word = getattr(node.func, "id", getattr(node.func, "attr", "")) if isinstance(node, ast.Call) else ""
+                if word in LAZY:
+                    outside = around[node]
+                    if isinstance(outside, ast.Call):
+                        self.assertIn(getattr(outside.func, "id", ""), TAKERS, (name, node.lineno))
+                    elif word != "range" or not isinstance(outside, ast.Assign):
+                        self.assertIsInstance(outside, (ast.For, ast.comprehension), (name, node.lineno))
 
     def test_l3_module_level(self):
         plain = (ast.ImportFrom, ast.FunctionDef, ast.ClassDef, ast.Assign)
