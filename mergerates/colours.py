@@ -48,6 +48,14 @@ def row_exit(b, row, t):
     return summed(numbers_leaving(row_taken(b, row), b, limit))
 
 
+def differences_taken(b, row, other):
+    """The differences of two rows, integers on one bottom, which does not matter where they are 0."""
+    first = row_taken(b, row)
+    second = row_taken(b, other)
+    tops, _ = on_one_bottom([*first, *second])
+    return [top - tops[place + len(first)] for place, top in enumerate(tops[:len(first)])]
+
+
 def alike_to_colours(b, row, other, q):
     """True if the two rows have the same exits at all partings of at most q blocks."""
     return unlike_colouring(b, row, other, q) is None
@@ -56,12 +64,7 @@ def alike_to_colours(b, row, other, q):
 def unlike_colouring(b, row, other, q):
     """The least parting of at most q blocks at which the two rows have different exits, or None."""
     check_colours(b, q)
-    first = row_taken(b, row)
-    second = row_taken(b, other)
-    # The bottom does not matter: exits differ where their tops on one bottom do.
-    tops, _ = on_one_bottom([*first, *second])
-    differences = [top - tops[place + len(first)] for place, top in enumerate(tops[:len(first)])]
-    found = telling_partings(b, differences, q)
+    found = telling_partings(b, differences_taken(b, row, other), q)
     return found[0] if len(found) > 0 else None
 
 

@@ -41,7 +41,7 @@ def inside_rates(n, row):
             raise NotOneLot(x)
     found = []
     for code in range(1 << n):
-        names = [name for name in range(n) if code >> name & 1 == 1]
+        names = [name for name in range(n) if (code >> name) & 1 == 1]
         found.append(summed([number_at[lot_label(lot, n)] for lot in lots_within(names)]))
     return tuple(found)
 

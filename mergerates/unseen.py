@@ -1,8 +1,7 @@
 """What few names tell of rows, and rows of which they tell nothing."""
 
-from mergerates.amounts import on_one_bottom
 from mergerates.checks import check_size, check_within, parting_on
-from mergerates.colours import row_taken
+from mergerates.colours import differences_taken
 from mergerates.labels import (
     all_partings, all_singles, block_count, is_finer, lot_label, mobius, subsets, traced, viewed,
 )
@@ -27,11 +26,7 @@ def traces_to_nothing(b, differences, lot):
 def alike_to_names(b, row, other, m):
     """True if the two rows have the same trace on each lot of at most m names."""
     check_names_told(b, m)
-    first = row_taken(b, row)
-    second = row_taken(b, other)
-    # The bottom does not matter: traces differ where those of the tops on one bottom do.
-    tops, _ = on_one_bottom([*first, *second])
-    differences = [top - tops[place + len(first)] for place, top in enumerate(tops[:len(first)])]
+    differences = differences_taken(b, row, other)
     return all([traces_to_nothing(b, differences, lot) for lot in subsets(b, m)])
 
 

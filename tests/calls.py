@@ -1,9 +1,9 @@
 """Calls of all functions of the package with arguments that are right, everything that may be a list being a list."""
 
 from mergerates import (
-    again, amounts, breaking, chances, colouring, colours, fair, halves, joins, leaving, likejoins, likeness, lotrows,
-    means, missing, nesting, partings, polynomials, rows, runs, seen, serving, splits, steady, stretches, tables,
-    telling, together, tracing, twins, unseen,
+    again, amounts, both, breaking, chances, colouring, colours, desks, fair, firsts, halves, joins, leaving, likejoins,
+    likeness, listings, lotrows, means, missing, nesting, numbers, onward, partings, polynomials, rows, runs, seen,
+    serving, splits, steady, stretches, tables, telling, together, tracing, trials, twins, unseen,
 )
 from mergerates.worlds import World, reached
 
@@ -164,7 +164,34 @@ ROW_CALLS = (
     (unseen.names_matter, {"world": WORLD, "p": [0, 1, 2]}),
 )
 
-CALLS = (*EARLY_CALLS, *JOIN_CALLS, *LATE_CALLS, *ROW_CALLS)
+DESK = desks.Desk(WORLD)
+DESK.take_times(2)
+TWO_DEEDS = [["drop", [[0, 0, 1]]], ["take_times", [3]]]
+LOTS_ROW = {"m": 4, "numbers": [3, 0, 1, (1, 2)], "k": 5}
+FIVE = rows.Counts(5, (0, 0, 1, 0, 2, 0))
+
+LAST_CALLS = (
+    (onward.next_stretch, {"rates": [3, (1, 2), 2]}), (onward.next_rates, {"rates": [3, (1, 2), 2], "z": (1, 3)}),
+    (onward.goes_on, LOTS_ROW), (onward.refusal, {"m": 4, "numbers": [0, 1, 0, 0], "k": 5}),
+    (onward.total_ends, LOTS_ROW),
+    (firsts.pair_time, {"world": WORLD, "a": 2, "b": 0, "start": [0, 0, 1]}),
+    (firsts.first_meeting, {"world": WORLD, "pairs": [[2, 0], [0, 1]]}),
+    (firsts.apart_time, {"world": WORLD, "lot": [2, 0, 1]}), (firsts.lone_sums, {"world": WORLD}),
+    (firsts.three_first, {"world": FIVE, "a": 4, "b": 0, "c": 1, "d": 2}),
+    (firsts.joins_all, {"world": WORLD, "cut": [0, 0, 1]}),
+    (both.all_at_once, {"world": WORLD}), (both.by_number, {"j": JOINS}),
+    (both.number_weights, {"n": 3, "numbers": [0, 2, (5, 2)]}), (both.numbers_come, {"n": 3, "numbers": [0, 2, (5, 2)]}),
+    (both.is_by_counts, {"world": COUNTS}),
+    (numbers.number_rates, {"world": WORLD, "p": [0, 1, 2]}), (numbers.number_memoryless, {"world": WORLD}),
+    (numbers.number_pair, {"world": World(3, JOINS.moves) + WORLD}), (numbers.pairs_kind, {"j": JOINS}),
+    (numbers.number_stays, {"world": WORLD}),
+    (DESK.now, {}), (DESK.deeds, {}), (DESK.what_if, {"deeds": TWO_DEEDS}),
+    (trials.report, {"world": WORLD}), (trials.tried, {"desk": DESK, "deeds": TWO_DEEDS}),
+    (trials.compared, {"world": WORLD, "other": JOINS}),
+    (listings.listing, {"world": WORLD}), (listings.chances_listing, {"chances": CHANCES}),
+)
+
+CALLS = (*EARLY_CALLS, *JOIN_CALLS, *LATE_CALLS, *ROW_CALLS, *LAST_CALLS)
 
 # The calls that return a list; all others return no list.
 LISTS = (

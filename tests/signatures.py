@@ -5,7 +5,7 @@ ORDER = ("errors", "checks", "labels", "amounts", "partings", "tables", "tracing
          "worlds", "runs", "leaving", "likeness", "seen", "steady", "colours", "likejoins",
          "joins", "breaking", "means", "telling", "polynomials", "chances", "missing", "colouring",
          "splits", "again", "nesting", "serving", "together", "stretches", "halves", "twins", "lotrows",
-         "rows", "fair", "unseen")
+         "rows", "fair", "unseen", "onward", "firsts", "both", "numbers", "desks", "trials", "listings")
 
 FUNCTIONS = {
     "amounts": {
@@ -125,6 +125,24 @@ FUNCTIONS = {
         "alike_to_names": "(b, row, other, m)", "unseen_by_names": "(b, m)", "lots_unseen": "(b, m)",
         "names_matter": "(world, p)",
     },
+    "onward": {
+        "next_stretch": "(rates)", "next_rates": "(rates, z)", "goes_on": "(m, numbers, k)",
+        "refusal": "(m, numbers, k)", "total_ends": "(m, numbers, k)",
+    },
+    "firsts": {
+        "pair_time": "(world, a, b, start)", "first_meeting": "(world, pairs)", "apart_time": "(world, lot)",
+        "lone_sums": "(world)", "three_first": "(world, a, b, c, d)", "joins_all": "(world, cut)",
+    },
+    "both": {
+        "all_at_once": "(world)", "by_number": "(j)", "number_weights": "(n, numbers)",
+        "numbers_come": "(n, numbers)", "is_by_counts": "(world)",
+    },
+    "numbers": {
+        "number_rates": "(world, p)", "number_memoryless": "(world)", "number_pair": "(world)", "pairs_kind": "(j)",
+        "number_stays": "(world)",
+    },
+    "trials": {"report": "(world)", "tried": "(desk, deeds)", "compared": "(world, other)"},
+    "listings": {"listing": "(world)", "chances_listing": "(chances)"},
 }
 
 WORLD = {
@@ -159,5 +177,14 @@ STRETCHES = {
 }
 
 COUNTS = {"__init__": "(self, size, numbers, *, times=1)", "numbers_at": "(self, b)"}
+
+DESK = {
+    "__init__": "(self, world, *, most=200)", "note_down": "(self, text)", "now": "(self)", "deeds": "(self)",
+    "undo": "(self)", "add_rate": "(self, p, r, rate)", "add_stroke": "(self, x, weight)", "drop": "(self, p)",
+    "take_times": "(self, k)", "take_below": "(self, t)", "look_from": "(self, p)", "rename": "(self, names)",
+    "glue": "(self, a, b)", "leave": "(self, z)", "what_if": "(self, deeds)",
+}
+
+TRIAL = {"__init__": "(self, desk)", "__enter__": "(self)", "__exit__": "(self, kind, value, trace)"}
 
 GENERATORS = {"lots_of": "partings", "chains": "runs"}

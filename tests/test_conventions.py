@@ -3,11 +3,12 @@
 import copy
 
 from mergerates import (
-    again, amounts, breaking, chances, colouring, colours, fair, halves, leaving, likejoins, likeness, lotrows, means,
-    missing, nesting, partings, polynomials, rows, runs, seen, serving, splits, steady, stretches, tables, telling,
-    together, tracing, twins, unseen,
+    again, amounts, both, breaking, chances, colouring, colours, fair, firsts, halves, leaving, likejoins, likeness,
+    lotrows, means, missing, nesting, numbers, onward, partings, polynomials, rows, runs, seen, serving, splits, steady,
+    stretches, tables, telling, together, tracing, trials, twins, unseen,
 )
 from mergerates.chances import Chances
+from mergerates.desks import Desk
 from mergerates.errors import (
     BadLot, BadNumber, BadParting, BadTable, BadTriple, NotFair, NotFiner, NotInside, NotJoins, NotOneLot, OtherSize,
     TooMany,
@@ -17,7 +18,7 @@ from mergerates.polynomials import Poly
 from mergerates.rows import Counts
 from mergerates.stretches import Stretches
 from mergerates.worlds import World, reached
-from tests.calls import CALLS, CHANCES, CLOCK, JOINS, LISTS, POLY, STRETCHES, WORLD
+from tests.calls import CALLS, CHANCES, CLOCK, DESK, JOINS, LISTS, POLY, STRETCHES, WORLD
 from tests.case import NO_AMOUNTS, Case
 
 
@@ -36,6 +37,8 @@ def plainly(value):
         return ("poly", value.terms)
     if isinstance(value, Stretches):
         return ("stretches", value.size, value.lows, value.highs)
+    if isinstance(value, Desk):
+        return ("desk", value.now().lines(), value.deeds(), value.note)
     if isinstance(value, (list, tuple)):
         return type(value)(plainly(item) for item in value)
     return value
@@ -275,8 +278,46 @@ class Conventions(Case):
         ):
             self.refuses(kind, told, call)
 
+    def test_0_4_which_error_is_first_in_the_last_modules(self):
+        bad, other, lot, most = (0, 2), (0, 1, 2, 3), (5, 5), (0, 0, 0)
+        desk = Desk(World(3, [((0, 0, 1), most, 4)]), most=1)
+        full = Desk(World(3), most=1)
+        full.take_times(1)
+        for kind, told, call in (
+            (BadNumber, "z", lambda: onward.next_rates(None, None)), (BadNumber, "m", lambda: onward.goes_on(1, None, 0)),
+            (BadNumber, "k", lambda: onward.refusal(3, None, 3)), (BadTable, -1, lambda: onward.total_ends(3, None, 4)),
+            (BadTable, 0, lambda: onward.goes_on(3, (-1, None), 4)),
+            (BadParting, 1, lambda: firsts.pair_time(WORLD, 9, 9, bad)),
+            (OtherSize, 4, lambda: firsts.pair_time(WORLD, 9, 9, other)),
+            (BadLot, 0, lambda: firsts.pair_time(WORLD, 9, 9, most)),
+            (BadLot, 1, lambda: firsts.pair_time(WORLD, 0, 0, most)),
+            (BadLot, 0, lambda: firsts.first_meeting(WORLD, [lot, None])),
+            (BadLot, 1, lambda: firsts.three_first(WORLD, 0, 0, 3, 4)),
+            (BadNumber, "n", lambda: both.number_weights(0, None)), (BadTable, -1, lambda: both.numbers_come(2, (None,))),
+            (BadParting, 1, lambda: numbers.number_rates(WORLD, bad)),
+            (NotOneLot, most, lambda: numbers.pairs_kind(Joins(3, (1, 1, 2, 3, 0)))),
+            (BadNumber, "rate", lambda: full.add_rate(bad, other, -1)),
+            (BadParting, 1, lambda: full.add_rate(other, bad, 1)), (OtherSize, 4, lambda: full.add_rate(other, (0,), 1)),
+            (NotFiner, -1, lambda: full.add_rate(most, most, 1)),
+            (TooMany, 1, lambda: full.add_rate((0, 1, 2), most, 1)),
+            (BadNumber, "weight", lambda: full.add_stroke(bad, -1)), (BadParting, 1, lambda: full.add_stroke(bad, 1)),
+            (OtherSize, 4, lambda: full.add_stroke(other, 1)), (NotFiner, -1, lambda: full.add_stroke((0, 1, 2), 1)),
+            (TooMany, 1, lambda: full.add_stroke(most, 1)), (BadNumber, "k", lambda: full.take_times(-1)),
+            (BadLot, 0, lambda: full.glue(3, 3)), (BadLot, 1, lambda: full.glue(1, 1)),
+            (NotJoins, (0, 0, 1), lambda: desk.leave(0)), (BadLot, 0, lambda: desk.leave(3)),
+            (BadTable, 0, lambda: full.what_if([None, ("drop", (bad,))])),
+            (BadParting, 1, lambda: full.what_if([("drop", (bad,)), None])),
+            (TooMany, 1, lambda: full.what_if([("drop", (most,)), None])),
+            (BadTable, 1, lambda: desk.what_if([("drop", (most,)), None])),
+            (OtherSize, 2, lambda: trials.compared(WORLD, World(2))),
+        ):
+            self.refuses(kind, told, call)
+
     def test_0_4_refused_calls_leave_objects_as_they_are(self):
-        before = plainly([JOINS, CHANCES, POLY, STRETCHES])
+        before = plainly([JOINS, CHANCES, POLY, STRETCHES, DESK])
+        self.refuses(BadLot, 1, DESK.glue, 0, 0)
+        self.refuses(BadNumber, "text", DESK.note_down, None)
+        self.refuses(BadTable, 1, DESK.what_if, [("take_times", (2,)), None])
         self.refuses(OtherSize, 2, STRETCHES.agrees, Joins(2, (1, 0)))
         self.refuses(OtherSize, 2, lambda: JOINS + Joins(2, (1, 0)))
         self.refuses(BadNumber, "k", lambda: JOINS * None)
@@ -284,7 +325,7 @@ class Conventions(Case):
         self.refuses(OtherSize, 2, lambda: CHANCES + Chances(2, (1, 0)))
         self.refuses(BadNumber, "k", CHANCES.repeated, 0)
         self.refuses(BadNumber, "u", POLY, None)
-        self.same(plainly([JOINS, CHANCES, POLY, STRETCHES]), before)
+        self.same(plainly([JOINS, CHANCES, POLY, STRETCHES, DESK]), before)
 
     def test_0_4_a_refused_call_changes_nothing(self):
         before = (WORLD.size, WORLD.moves, WORLD.lines())
@@ -312,6 +353,23 @@ class Conventions(Case):
         self.same([fair.fair_to(c), fair.pair_rate(c)], [5, sum(c.numbers_at(2))])
         j = Joins(6, [10 ** 14 - place for place in range(202)] + [0])
         self.same(stretches.time_ends(Stretches(6, j.weights, j.weights), (0,) * 6), (means.whole_time(j),) * 2)
+
+    def test_0_5_sizes_of_last_modules(self):
+        top = 10 ** 40 - 1
+        v = [amounts.fraction(place + 1, top - place) for place in range(6)]
+        found = onward.goes_on(5, v, 6)
+        if found is None:
+            self.assertIsNotNone(onward.refusal(5, v, 6))
+        c = Counts(6, [10 ** 14 - place for place in range(10)])
+        self.same(rows.trace_numbers(6, onward.goes_on(5, c.numbers_at(5), 6), 5),
+                  tuple((number, 1) for number in c.numbers_at(5)))
+        self.same(firsts.pair_time(c, 0, 5, partings.singles(6)), (1, fair.pair_rate(c)))
+        self.same(firsts.apart_time(c, (0, 1, 2, 3, 4)), (1, amounts.total(rows.spread(5, c.numbers_at(5)))[0]))
+        self.same(trials.report(c)[:4], (6, 2268, 1, 5))
+        desk = Desk(c)
+        desk.take_times(10 ** 14)
+        desk.glue(0, 1)
+        self.assertEqual(desk.now(), Counts(5, c.numbers_at(5), times=10 ** 14))
 
     def test_0_5_sizes_of_worlds(self):
         # All moves on six names at great rates, the same from each parting: the stays are told by few digits.

@@ -160,3 +160,40 @@ class Examples(Case):
         w = World(3, MOVES)
         self.same([going(w, (0, 1), (0, 1, 2)), unfair_at(w, 2)],
                   [[((0, 0), 3)], ((0, 1), (0, 1, 0), (0, 1, 2))])
+
+    def test_next_stretch(self):
+        from mergerates.onward import goes_on, next_rates, next_stretch, total_ends
+        self.same([next_stretch([3, 1, 2]), next_rates([3, 1, 2], 1)],
+                  [((1, 1), (2, 1)), ((3, 1), (0, 1), (1, 1), (1, 1))])
+        self.same([goes_on(4, (0, 1, 0, 0), 5), total_ends(3, (2, 1), 4)], [None, ((7, 1), (13, 1))])
+
+    def test_first_meeting(self):
+        from mergerates.fair import pair_rate
+        from mergerates.firsts import first_meeting, three_first
+        from mergerates.rows import Counts
+        c = Counts(4, (1, 0, 0, 0))
+        t = Counts(4, (0, 0, 1, 0))
+        self.same([pair_rate(c), first_meeting(c, [(0, 1), (2, 3)]), three_first(c, 0, 1, 2, 3)], [1, (11, 18), False])
+        self.same([pair_rate(t), t.numbers_at(3), first_meeting(t, [(0, 1), (2, 3)]), three_first(t, 0, 1, 2, 3)],
+                  [2, (1, 1), (1, 4), True])
+
+    def test_pairs_kind(self):
+        from mergerates.both import by_number
+        from mergerates.numbers import number_stays, pairs_kind
+        j = Joins.of_pairs(3, [(0, 1, 1), (1, 2, 1), (2, 0, 1)])
+        self.same([pairs_kind(j), number_stays(j), by_number(j)], ['ring', (None, (1, 2), (1, 3)), (0, 2, 3)])
+
+    def test_desk(self):
+        from mergerates.desks import Desk
+        d = Desk(World(3))
+        self.same([d.add_stroke((0, 0, 1), 2), d.add_rate((0, 1, 2), (0, 0, 0), 1)], [None, None])
+        self.same(d.what_if([("drop", ((0, 1, 2),)), ("take_times", (3,))]).moves,
+                  (((0, 1, 0), (0, 0, 0), 6), ((0, 1, 1), (0, 0, 0), 6)))
+        self.same([d.deeds(), d.depth, d.undo(), d.depth], [('add_stroke', 'add_rate'), 2, 'add_rate', 1])
+
+    def test_listing(self):
+        from mergerates.listings import listing
+        from mergerates.trials import report
+        j = Joins.of_pairs(3, [(0, 1, 12)])
+        self.same(listing(j), '010 > 000  12\n011 > 000  12\n012 > 001  12\n3 names, 3 moves')
+        self.same(report(Joins.of_pairs(3, [(0, 1, 1), (1, 2, 1), (2, 0, 1)])), (3, 6, 3, 1, True, True, None))

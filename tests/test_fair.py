@@ -106,11 +106,6 @@ class Fair(Case):
                     k = len(set(p))
                     self.same(numbers_of(k, w.row_at(p)), trace_numbers(n - 1, v, k))
 
-    def test_example(self):
-        w = EXAMPLE
-        self.same([going(w, (0, 1), (0, 1, 2)), unfair_at(w, 2)],
-                  [[((0, 0), 3)], ((0, 1), (0, 1, 0), (0, 1, 2))])
-
     def test_refused(self):
         w = World(4)
         for wrong in (*NO_INTEGERS, 0, 5, -1):

@@ -135,11 +135,6 @@ class Halves(Case):
         self.same(halves(3, (2, 0, 0, 0, 0)), halves(3, (0, 1, 1, 1, 0)))
         self.assertIn(False, answers)
 
-    def test_example(self):
-        row = (1, 2, 0, 0, 0)
-        self.same([halves(3, row), cut_rates(3, row), halves_from_cuts(3, (1, 3, 3))],
-                  [((5, 4), (1, 4), (1, 4)), ((1, 1), (3, 1), (3, 1)), ((5, 4), (1, 4), (1, 4))])
-
     def test_refused(self):
         for wrong in (*NO_INTEGERS, 0, 1, 7):
             for call in (halves, cut_rates, cuts_from_halves, halves_from_cuts):

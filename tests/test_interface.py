@@ -6,14 +6,18 @@ import inspect
 from pathlib import Path
 
 from mergerates.chances import Chances
+from mergerates.desks import Desk
 from mergerates.joins import Joins
 from mergerates.leaving import Clock
 from mergerates.polynomials import Poly
 from mergerates.rows import Counts
 from mergerates.stretches import Stretches
+from mergerates.trials import Trial
 from mergerates.worlds import World
 from tests.case import Case
-from tests.signatures import CHANCES, CLOCK, COUNTS, FUNCTIONS, GENERATORS, JOINS, ORDER, POLY, STRETCHES, WORLD
+from tests.signatures import (
+    CHANCES, CLOCK, COUNTS, DESK, FUNCTIONS, GENERATORS, JOINS, ORDER, POLY, STRETCHES, TRIAL, WORLD,
+)
 
 FOLDER = Path(__file__).resolve().parent.parent / "mergerates"
 
@@ -78,6 +82,12 @@ class Interface(Case):
     def test_counts_defines_its_methods_itself(self):
         self.defines_itself(Counts, "mergerates.rows", (World,), COUNTS)
         self.assertEqual(vars(Counts)["KIND"], "counts")
+
+    def test_desk_and_trial_define_their_methods_themselves(self):
+        self.defines_itself(Desk, "mergerates.desks", (object,), DESK)
+        self.assertIsInstance(vars(Desk)["depth"], property)
+        self.assertIsInstance(vars(Desk)["note"], property)
+        self.defines_itself(Trial, "mergerates.trials", (object,), TRIAL)
 
     def test_world_defines_its_methods_itself(self):
         self.defines_itself(World, "mergerates.worlds", (object,), WORLD)

@@ -101,11 +101,6 @@ class LotRows(Case):
                 self.same(alike_to_colours(n, row, other, 3), row == other)
         self.same(alike_to_colours(3, (1, 0, 0, 0, 0), (0, (1, 2), (1, 2), (1, 2), 0), 2), True)
 
-    def test_example(self):
-        self.same([inside_rates(3, (2, 1, 0, 0, 0)), lots_from_exits(3, (0, 2, 3, 3, 3))],
-                  [((0, 1), (0, 1), (0, 1), (1, 1), (0, 1), (0, 1), (0, 1), (3, 1)),
-                   ((2, 1), (1, 1), (0, 1), (0, 1), (0, 1))])
-
     def test_refused(self):
         for wrong in (*NO_INTEGERS, 0, 1, 7):
             self.refuses(BadNumber, "n", lot_row, wrong, None)
@@ -170,10 +165,6 @@ class Triangles(Case):
             expected = first <= second + third and second <= first + third and third <= first + second
             self.same(from_triangle(first, second, third), expected)
             self.assertEqual((third, second, first) in found, expected)
-
-    def test_example(self):
-        self.same([triangle(3, 4, 5), triangle(1, 1, 3), from_triangle(1, 1, 3)],
-                  [((3, 1), (2, 1), (1, 1)), ((3, 2), (3, 2), (-1, 2)), False])
 
     def test_refused(self):
         for wrong in NO_AMOUNTS:

@@ -13,7 +13,7 @@ from mergerates.partings import join, partings, singles
 from mergerates.polynomials import open_poly
 from mergerates.splits import apart_poly, memory_free
 from tests import manyjoins, plain
-from tests.case import NO_INTEGERS, NO_PARTINGS, Case
+from tests.case import NO_PARTINGS, Case
 
 RATES = [(None, 3, 1), (3, None, 1), (1, 1, None)]
 

@@ -179,11 +179,6 @@ class Ends(Case):
         self.same(closed_ends(EXAMPLE, (0, 0), 1), ((0, 1), (0, 1)))
         self.same(closed_ends(EXAMPLE, (0, 1), (1, 1)), ((1, 1), (1, 1)))
 
-    def test_example(self):
-        r = (0, 0)
-        self.same([closed_ends(EXAMPLE, r, (1, 2)), time_ends(EXAMPLE, r), ends_unlike(EXAMPLE, r)],
-                  [((1, 2), (3, 4)), ((1, 2), (1, 1)), True])
-
     def test_refused(self):
         great = Stretches(3, (400, 0, 0, 0, 0), (400, 0, 1, 0, 0))
         for wrong in (*NO_AMOUNTS, 0, -1, 2, (0, 1), (-1, 2), (3, 2)):

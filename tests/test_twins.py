@@ -112,11 +112,6 @@ class Twins(Case):
                     self.same(same_to_two(n=n, row=row, other=moved), True)
                 self.same(same_to_two(n, row, twin(n, row)), True)
 
-    def test_example(self):
-        row = (2, 0, 0, 1, 0)
-        self.same([twin(3, row), twin_number(5, 2), has_true_twin(4, (0, 0, 0, 1, 0, 0, 0, 0, 0, 0, 0, 0, 0, 0, 0))],
-                  [((0, 1), (1, 1), (1, 1), (2, 1), (0, 1)), (-1, 4), False])
-
     def test_refused(self):
         for wrong in (*NO_INTEGERS, 0, 1, 7):
             for call in (twin, twin_from_cuts, has_true_twin, lambda n, row: same_to_two(n, row, None)):
