@@ -3,7 +3,10 @@
 from fractions import Fraction
 from itertools import combinations
 
-from mergerates.errors import BadLot, BadNumber, BadTable, OtherSize
+from mergerates.errors import BadLot, BadNumber, BadTable, NotJoins, OtherSize
+from mergerates.joins import joins_of
+from mergerates.likejoins import like_joins_at
+from mergerates.means import stays_by_sums
 from mergerates.partings import lot_parting, partings, shape_of
 from mergerates.rows import (
     Counts, lots_numbers, numbers_of, row_total, shapes, spread, totals, trace_numbers, trace_row,
@@ -229,6 +232,23 @@ class CountsWorlds(Case):
         self.same(Counts.line_of(((0, 1), (0, 0), 0)), "01 > 00 : 0")
         self.refuses(OtherSize, 2, lambda: c + Counts(2, (1,)))
         self.refuses(BadNumber, "k", lambda: c * -1)
+
+    def test_46_which_of_them_are_join_worlds(self):
+        answers = []
+        for n in (2, 3, 4):
+            for numbers in (*manyrows.count_rows(n), (0,) * (len(shapes(n)) - 1) + (7,)):
+                c = Counts(n, numbers)
+                unlike = [p for p in partings(n) if not like_joins_at(c, p)]
+                # [137]: a join world that is fair to two names has no stroke but whole.
+                self.assertEqual(unlike == [], n == 2 or not any(numbers[:-1]))
+                if unlike:
+                    self.refuses(NotJoins, unlike[0], joins_of, c)
+                else:
+                    j = joins_of(c)
+                    self.same((j.KIND, j.moves, j.weights), ("joins", c.moves, c.first_rates()))
+                    self.same(tuple(stays_by_sums(j)), stays(c))
+                answers.append(unlike == [])
+        self.assertEqual(set(answers), {True, False})
 
     def test_a_row_of_zeros(self):
         for n in SIZES:
