@@ -9,7 +9,7 @@ from mergerates.rows import numbers_by_shape
 
 
 def rates_over(world, names, p):
-    """For each parting to which the trace goes over from p its rate, in ascending order."""
+    """The list of (y, rate) of the partings to which the trace on the names goes over from p, ascending."""
     stands = traced(p, names)
     rates = {}
     for r, rate in world.from_here(p):
@@ -19,16 +19,22 @@ def rates_over(world, names, p):
     return [(y, rates[y]) for y in sorted(rates)]
 
 
-def unlike_pair(world, names):
-    """The least two partings with one trace from which it goes over at different rates, or None."""
+def least_unlike(entries):
+    """Of entries (parting, mark, value) in order the least two partings with one mark and different values, or None."""
     first_of = {}
     pairs = []
-    for p in all_partings(world.size):
-        rates = rates_over(world, names, p)
-        first, expected = first_of.setdefault(traced(p, names), (p, rates))
-        if rates != expected:
+    for p, mark, value in entries:
+        first, expected = first_of.setdefault(mark, (p, value))
+        # Where any two partings of one mark differ, some one differs from the first of them.
+        if value != expected:
             pairs.append((first, p))
     return min(pairs, default=None)
+
+
+def unlike_pair(world, names):
+    """The least two partings with one trace from which it goes over at different rates, or None."""
+    every = all_partings(world.size)
+    return least_unlike([(p, traced(p, names), rates_over(world, names, p)) for p in every])
 
 
 def going(world, lot, p):

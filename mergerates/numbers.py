@@ -2,6 +2,7 @@
 
 from mergerates.amounts import summed
 from mergerates.checks import parting_on
+from mergerates.fair import least_unlike
 from mergerates.labels import all_partings, block_count
 from mergerates.runs import stays
 from mergerates.together import pairs_of
@@ -28,14 +29,7 @@ def number_memoryless(world):
 
 def number_pair(world):
     """The least two reached partings of equally many blocks with different rates, None if there are none."""
-    first_of = {}
-    pairs = []
-    for p in reached(world):
-        rates = rates_to_numbers(world, p)
-        first, expected = first_of.setdefault(block_count(p), (p, rates))
-        if rates != expected:
-            pairs.append((first, p))
-    return min(pairs, default=None)
+    return least_unlike([(p, block_count(p), rates_to_numbers(world, p)) for p in reached(world)])
 
 
 def pairs_kind(j):
