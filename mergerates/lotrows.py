@@ -7,8 +7,9 @@ from mergerates.colours import row_taken
 from mergerates.errors import BadTable, NotOneLot
 from mergerates.halves import check_cut_size
 from mergerates.joins import check_entries, lot_of_entry
-from mergerates.labels import all_partings, lot_label, places, relabelled, subsets
+from mergerates.labels import all_partings, lot_label, places, relabelled
 from mergerates.likejoins import is_lot_parting
+from mergerates.splits import lots_within
 
 
 def number_entry(entry, n, place):
@@ -26,10 +27,14 @@ def lot_row(n, lots):
     return tuple(sums_at(n, [number_entry(entry, n, place) for place, entry in enumerate(lots)]))
 
 
-def lots_within(names):
+def joining_lots(names):
     """The lots of at least two of the names, those of fewer names first."""
-    return [tuple([names[place] for place in chosen])
-            for size in range(2, len(names) + 1) for chosen in subsets(len(names), size)]
+    return [lot for lot in lots_within(names) if len(lot) >= 2]
+
+
+def sign_between(lot, part):
+    """1 or -1, by turns with the number of names of the lot outside the part."""
+    return -1 if (len(lot) - len(part)) % 2 == 1 else 1
 
 
 def inside_rates(n, row):
@@ -42,14 +47,14 @@ def inside_rates(n, row):
     found = []
     for code in range(1 << n):
         names = [name for name in range(n) if (code >> name) & 1 == 1]
-        found.append(summed([number_at[lot_label(lot, n)] for lot in lots_within(names)]))
+        found.append(summed([number_at[lot_label(lot, n)] for lot in joining_lots(names)]))
     return tuple(found)
 
 
 def insides_from_exits(n, exit_at):
     """For each lot of at least two names the rate inside it, by the exits, integers, at the partings."""
     inside = {}
-    for lot in lots_within(list(range(n))):
+    for lot in joining_lots(list(range(n))):
         *rest, v = lot
         if len(lot) < n:
             blocks = relabelled([0 if name in rest else 1 if name == v else 2 for name in range(n)])
@@ -70,7 +75,7 @@ def lots_from_exits(n, exits):
     place_of = places(n)
     found = [(0, 1) for _ in place_of]
     for lot in inside:
-        signed = [inside[part] * (-1 if (len(lot) - len(part)) % 2 == 1 else 1) for part in lots_within(lot)]
+        signed = [inside[part] * sign_between(lot, part) for part in joining_lots(lot)]
         found[place_of[lot_label(lot, n)]] = reduced(sum(signed), bottom)
     return tuple(found)
 

@@ -5,6 +5,7 @@ from mergerates.colours import differences_taken
 from mergerates.labels import (
     all_partings, all_singles, block_count, is_finer, lot_label, mobius, subsets, traced, viewed,
 )
+from mergerates.lotrows import joining_lots, sign_between
 from mergerates.partings import touched
 from mergerates.rows import numbers_by_shape
 
@@ -44,11 +45,7 @@ def unseen_by_names(b, m):
 
 def unseen_at_lot(b, lot):
     """The row of lots whose numbers are 1 and -1 by turns at the lots inside this one."""
-    number_at = {}
-    for size in range(2, len(lot) + 1):
-        for chosen in subsets(len(lot), size):
-            part = [lot[place] for place in chosen]
-            number_at[lot_label(part, b)] = -1 if (len(lot) - size) % 2 == 1 else 1
+    number_at = {lot_label(part, b): sign_between(lot, part) for part in joining_lots(lot)}
     return tuple([number_at.get(x, 0) for x in all_partings(b)])
 
 

@@ -3,6 +3,7 @@
 from itertools import combinations, permutations
 
 from mergerates.again import may_leave
+from mergerates.amounts import compare
 from mergerates.desks import Desk
 from mergerates.errors import (
     BadLot, BadNumber, BadParting, BadTable, MergeError, NotFiner, NothingToUndo, NotInside, NotJoins, OtherSize, TooMany,
@@ -383,6 +384,16 @@ class Orders(Case):
                 for p in [p for p in plain.below(t)][::1 if n < 4 else 3]:
                     self.assertEqual(made(w, ("take_below", (t,)), ("look_from", (p,))),
                                      made(w, ("look_from", (p,)), ("take_below", (seen_from(p, t),))))
+
+    def test_28_below(self):
+        for n, rates, w in some_worlds((2, 3)):
+            for t in partings(n):
+                v = made(w, ("take_below", (t,)))
+                for s in plain.below(t):
+                    for p in plain.below(s):
+                        self.same(v.exit_from(p, s), w.exit_from(p, s) - w.exit_from(p, t))
+                        found, before = held_time(v, s, p), held_time(w, s, p)
+                        self.assertTrue(found is None or compare(found, before) >= 0)
 
     def joins(self):
         yield from manyjoins.all_joins((2, 3, 4))

@@ -8,11 +8,13 @@ from mergerates.errors import BadLot, BadParting, OtherSize
 from mergerates.fair import is_fair, pair_rate, row_seen
 from mergerates.firsts import apart_time, first_meeting, joins_all, lone_sums, pair_time, three_first
 from mergerates.halves import cuts
+from mergerates.means import question_time
 from mergerates.partings import lot_parting, partings
 from mergerates.rows import Counts, row_total
 from mergerates.steady import is_steady
+from mergerates.together import first_time
 from mergerates.worlds import World, reached
-from tests import many, manyrows, plain
+from tests import many, manyjoins, manyrows, plain
 from tests.case import NO_PARTINGS, Case
 from tests.manyjoins import exact
 from tests.test_fair import fair_worlds
@@ -136,6 +138,16 @@ class Times(Case):
                             self.same(apart_time(w, lot), plain.told(Fraction(1, R)) if R > 0 else None)
                             asked += 1
         self.assertGreater(asked, 100)
+
+    def test_94_meetings_in_join_worlds(self):
+        for n, weights, j in manyjoins.all_joins((2, 3, 4)):
+            every = list(combinations(range(n), 2))
+            for pair in every:
+                self.same(pair_time(j, *pair, partings(n)[-1]), question_time(j, lot_parting(pair, n)))
+                self.same(first_meeting(j, [pair]), question_time(j, lot_parting(pair, n)))
+            for pair, other in list(combinations(every, 2))[::1 if n < 4 else 3]:
+                found = first_time(j, lot_parting(pair, n), lot_parting(other, n))
+                self.same(first_meeting(j, [pair, other]), found)
 
     def test_130_lone_sums(self):
         for n, rates, w in some_worlds():

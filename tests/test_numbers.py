@@ -12,6 +12,7 @@ from mergerates.means import question_time
 from mergerates.numbers import number_memoryless, number_pair, number_rates, number_stays, pairs_kind
 from mergerates.partings import lot_parting, partings
 from mergerates.rows import Counts
+from mergerates.serving import servers
 from mergerates.together import closed_chance, independent
 from mergerates.worlds import World, reached
 from tests import manyjoins, plain
@@ -277,3 +278,14 @@ class Forests(Case):
                     self.same(found, False)
                 answers.append((kind, found))
         self.assertEqual(set(answers), {("forest", True), ("forest", False), ("ring", False)})
+
+    def test_98_servers_are_the_pairs_of_ways(self):
+        for n, pairs, g, kind, j in kinds():
+            if kind == "other" or g > 1:
+                continue
+            for a, b in list(combinations(range(n), 2))[::1 if n < 6 else 4]:
+                way = apart(n, pairs, a, b)
+                # In a ring two ways lead from name to name, and together they go along all pairs.
+                expected = [] if way is None else way if kind == "forest" else pairs
+                strokes = sorted(lot_parting(tuple(pair), n) for pair in expected)
+                self.same(servers(j, lot_parting((a, b), n)), strokes)
