@@ -149,7 +149,7 @@ def totals(m, numbers):
 
 def counted_moves(size, numbers):
     """The moves by which the row at each parting of k >= 2 blocks is the trace on k names."""
-    row_of = {k: spread_row(k, traced_counts(size, numbers, k), 0) for k in range(2, size + 1)}
+    row_of = {b: spread_row(b, traced_counts(size, numbers, b), 0) for b in range(2, size + 1)}
     moves = []
     for p in all_partings(size)[1:]:
         k = block_count(p)
